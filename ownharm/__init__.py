@@ -1,0 +1,1 @@
+"""Ownharm: harm stays with the room that did it. The names stand in the modules of this folder."""
