@@ -17,10 +17,9 @@ def need_room_of(program, room):
 def is_event(source, waits, event):
     """Whether any value is an event of the room while these runnings wait."""
     if is_tuple(event, 3, 3):
-        return (isinstance(event[0], str) and event[0] == "in"
-                and is_whole(event[1], 0, len(source[4]) - 1) and is_number(event[2]))
+        return event[0] == "in" and is_whole(event[1], 0, len(source[4]) - 1) and is_number(event[2])
     if is_tuple(event, 2, 2):
-        return isinstance(event[0], str) and event[0] == "got" and is_number(event[1]) and len(waits) > 0
+        return event[0] == "got" and is_number(event[1]) and len(waits) > 0
     return False
 
 

@@ -61,7 +61,7 @@ class BodyReader:
         if line.indent % 2 == 1 or not 0 <= level < len(self.bodies):
             line.fail()
         # Behind an else only a statement of its own body can stand.
-        if self.bare_else and (level < len(self.bodies) - 1 or line.word() == "else"):
+        if self.bare_else and level < len(self.bodies) - 1:
             line.fail()
         if line.word() == "else":
             self.read_else(line, level)

@@ -41,12 +41,12 @@ class BodyCheck:
         return True
 
     def is_node(self, value, depth):
-        """Counts one node more; whether it may be there and begins with a word."""
+        """Counts one node more; whether it may be there and is a tuple with something in it."""
         self.many += 1
         # The bounds come first: they also end the way through values that are too deep or too long.
         if self.many > MOST_NODES or depth > MOST_DEPTH:
             return False
-        return is_tuple(value, 1, 4) and isinstance(value[0], str)
+        return is_tuple(value, 1, 4)
 
     def is_statement(self, value, depth):
         """Whether the value is a statement at this depth."""
@@ -99,11 +99,11 @@ class BodyCheck:
 
     def has_block(self, value):
         """Whether the value names a block of the room."""
-        return isinstance(value, str) and value in self.blocks
+        return value in self.blocks
 
     def has_import(self, room, door):
         """Whether the room imports this door."""
-        return isinstance(room, str) and isinstance(door, str) and (room, door) in self.imports
+        return (room, door) in self.imports
 
 
 def are_imports(value, own):

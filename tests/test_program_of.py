@@ -262,7 +262,7 @@ class BodyTest(ReadTest):
                       "h(1, 2)", "b.d(x)", "c . d ( x )", "(1 rest 2)", "((1+2)-(3*4))", "((1 < 2) = (1 = 2))", "to",
                       "h(h(f(), f()), g(g(1)))", "b.d(c.d(b.e(k[k[x]])))"]:
             self.value_good(value)
-        for value in ["@10000", "@01", "@00", "@1x", "@X", "@)", "@]", "@=", "@-1", "@+", "@,", "@.", "@if", "@rest", "@stop",
+        for value in ["@10000", "@01", "@00", "@1x", "@X", "@xA", "@xZ", "@x_", "@x0Az", "@)", "@]", "@=", "@-1", "@+", "@,", "@.", "@if", "@rest", "@stop",
                       "@room", "@\t", "@;", "(@)", "(x @)", "(x @y)", "(x@, y)", "(x@[0])", "(x + @)", "(x + y @+ z)",
                       "(x - @-)", "(x rest@< y)", "(x < @< y)", "(x @> y)", "(x @/ 2)", "(x @rests y)",
                       "(x + y@]", "((x + y) @)", "k[@]", "k[0@)", "k[0@, 0]", "k@(0)", "k@.d(0)", "x@[0]", "x@(0)",
@@ -379,6 +379,17 @@ class BoundsTest(ReadTest):
         self.wrong(self.told(["give " + "k[" * 11 + "@b.d(x)" + "]" * 11]))
         self.wrong(self.told(["k[" + "k[" * 10 + "k[@x]" + "]" * 10 + "] = 1"]))
         self.wrong(self.told(["y = " + "k[" * 11 + "@0" + "]" * 11]))
+        for begin in ["y = ", "k[0] = ", "give ", "if ", "while "]:
+            for one in ["({} + 1)", "(1 + {})", "k[{}]", "f({})", "b.d({})"]:
+                # The first operand comes first: it is too deep ahead of the second one.
+                value = one.replace("{}", "x").replace("1", "@1") if one == "(1 + {})" else one.format("@x")
+                for _ in range(10):
+                    value = one.format(value)
+                self.wrong(self.told([begin + value]))
+                value = "x"
+                for _ in range(10):
+                    value = one.format(value)
+                self.good(self.told([begin + value]))
         self.good(self.told(self.nested(11, "stop")))
         self.good(self.told(self.nested(10, "give x")))
         self.wrong(self.told(self.nested(11, "give @x")))

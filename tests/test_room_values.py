@@ -72,6 +72,11 @@ class RoomTest(unittest.TestCase):
                 expected = (at == 0 and is_name(value)) or (1 <= at <= 3 and value == () and isinstance(value, tuple))
                 self.assertIs(is_room(base[:at] + (value,) + base[at + 1:]), expected, (at, value))
 
+    def test_as_many_items_as_a_room_has(self):
+        self.bad(room() + ((),))
+        self.bad(room()[:4])
+        self.bad(room() + room())
+
     def test_lists_do_not_stand_for_tuples(self):
         base = room(imports=(("b", "d"),), blocks=(BLOCK,), functions=(FUN,), body=(
             ("let", "y", ("plus", ZERO, ("run", "f", (ZERO, ZERO)))), ("if", ZERO, (STOP,), ()), ("while", ZERO, ()),
@@ -182,6 +187,8 @@ class RoomTest(unittest.TestCase):
                 self.assertIs(is_room(value), passed == many)
         for arguments in [[], None, ZERO, "", {}]:
             self.bad(give(("run", "f", arguments), functions=(("f", (), ()),)))
+        for function in [["f"], ("f",), None, {"f": 0}, 0, True, "F"]:
+            self.bad(give(("run", function, ()), functions=(("f", (), ()),)))
 
     def test_lengths_and_words_of_nodes(self):
         good = {
@@ -190,6 +197,10 @@ class RoomTest(unittest.TestCase):
             "run": ("f", (ZERO, ZERO)), "ask": ("b", "d", ZERO),
         }
         more = {"blocks": (BLOCK,), "functions": (FUN,), "imports": (("b", "d"),)}
+        for word in [None, True, 1, ["plus"], ("plus",), {"plus": 1}, ("number", 1)]:
+            self.bad(give((word, ZERO, ZERO), **more))
+            self.bad(give((word,), **more))
+            self.bad(room(body=((word,),)))
         for word, rest in good.items():
             self.good(give((word, *rest), **more))
             self.bad(give((word, *rest, ZERO), **more))
@@ -201,6 +212,7 @@ class RoomTest(unittest.TestCase):
         for word, rest in good.items():
             self.good(room(body=((word, *rest),), **more))
             self.bad(room(body=((word, *rest, ()),), **more))
+            self.bad(room(body=((word.upper(), *rest),), **more))
             if rest:
                 self.bad(room(body=((word, *rest[:-1]),), **more))
             self.bad(give((word, *rest), **more))
@@ -233,17 +245,39 @@ class RoomTest(unittest.TestCase):
     def test_12_deep(self):
         self.good(give(chain(11), imports=(("b", "d"),)))
         self.bad(give(chain(12), imports=(("b", "d"),)))
-        for word in ["while", "if"]:
-            for levels in range(1, 13):
+        for form in [lambda body: ("while", ZERO, body), lambda body: ("if", ZERO, body, ()),
+                     lambda body: ("if", ZERO, (), body), lambda body: ("if", ZERO, (STOP,), body)]:
+            for levels in range(1, 16):
                 body = (STOP,)
                 for _ in range(levels - 1):
-                    body = ((word, ZERO, body),) if word == "while" else ((word, ZERO, (), body),)
+                    body = (form(body),)
                 self.assertIs(is_room(room(body=body)), levels <= 12)
         body = (("give", ZERO),)
         for _ in range(10):
             body = (("while", ZERO, body),)
         self.good(room(body=body))
         self.bad(room(body=(("while", ZERO, body),)))
+
+    def test_12_deep_for_each_kind_of_node(self):
+        more = {"imports": (("b", "d"),), "blocks": (BLOCK,), "functions": (FUN,)}
+        values = [lambda value: ("cell", "k", value), lambda value: ("run", "f", (value, ZERO)),
+                  lambda value: ("run", "f", (ZERO, value)), lambda value: ("ask", "b", "d", value)]
+        for word in ("plus", "minus", "times", "rest", "less", "same"):
+            values.append(lambda value, word=word: (word, value, ZERO))
+            values.append(lambda value, word=word: (word, ZERO, value))
+        statements = [lambda value: ("let", "y", value), lambda value: ("give", value),
+                      lambda value: ("store", "k", value, ZERO), lambda value: ("store", "k", ZERO, value),
+                      lambda value: ("if", value, (), ()), lambda value: ("while", value, ())]
+        for statement in statements:
+            for form in values:
+                value = ZERO
+                for depth in range(2, 16):
+                    self.assertIs(is_room(room(body=(statement(value),), **more)), depth <= 12)
+                    value = form(value)
+            body = (statement(ZERO),)
+            for depth in range(1, 16):
+                self.assertIs(is_room(room(body=body, **more)), depth <= 11)
+                body = (("while", ZERO, body),)
 
     def test_deep_and_wide_values_are_judged(self):
         value = ZERO

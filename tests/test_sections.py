@@ -58,6 +58,7 @@ class BoardTest(unittest.TestCase):
     def test_face(self):
         self.assertEqual(board_face(BOARD), (7, BOARD[1], (1, 2, 1)))
         self.assertEqual(board_face(board=(1, ((),), (ONE,))), (1, ((),), (1,)))
+        self.assertEqual(board_face((1, ((), ()), (((0,) * 50, (0,) * 3), ((0,), (0,) * 6)))), (1, ((), ()), (3, 6)))
 
 
 class WithSectionTest(unittest.TestCase):
