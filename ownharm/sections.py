@@ -82,7 +82,7 @@ def instruction_number(value):
     """The least number that is this instruction."""
     if not is_instruction(value):
         raise BadInstruction("the value is no instruction")
-    first, many, last = FORMS[value[0]]
-    digits = [first, *value[1:], 0, 0, 0][:4]
-    number = digits[0] * 1000 + digits[1] * 100 + digits[2] * 10 + digits[3]
+    first, _, last = FORMS[value[0]]
+    digits = list(value[1:]) + [0, 0, 0]
+    number = first * 1000 + digits[0] * 100 + digits[1] * 10 + digits[2]
     return number + last
