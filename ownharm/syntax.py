@@ -28,6 +28,22 @@ def children(node):
     return []
 
 
+def bodies_in(node):
+    """The bodies that stand directly in a node."""
+    if node[0] == "if":
+        return [node[2], node[3]]
+    if node[0] == "while":
+        return [node[2]]
+    return []
+
+
+def expressions_in(node):
+    """The expressions that stand directly in a node, not those in its bodies."""
+    if node[0] == "if" or node[0] == "while":
+        return [node[1]]
+    return children(node)
+
+
 def with_children(node, inner):
     """The node with other nodes in the places of its children, one for each."""
     word = node[0]
@@ -57,6 +73,15 @@ def nodes_in(body):
     for node in body:
         found.append(node)
         found.extend(nodes_in(children(node)))
+    return found
+
+
+def numbered(body, at):
+    """The list of the pairs (index, node) of nodes that stand one behind another, the first one's index being at."""
+    found = []
+    for node in body:
+        found.append((at, node))
+        at += len(nodes_in([node]))
     return found
 
 

@@ -25,14 +25,43 @@ FUNCTIONS = {
         "with_section": "(board, room, section)", "instruction": "(number)", "instruction_number": "(value)",
     },
     "sectiontexts": {"section_text": "(section)", "section_of": "(text)"},
+    "machine": {
+        "machine_row": "(board, number, steps)", "handed": "(board, number, steps)",
+        "section_acts": "(board, room, events, steps)",
+    },
+    "compiling": {"layout": "(program, room)", "compiled": "(program, room)", "places_of": "(program, room)"},
+    "boards": {"board_of": "(program, foreign=None)"},
+    "changes": {
+        "stores_of": "(source, place)", "is_change": "(source, thing)", "changed": "(source, change)",
+        "changes_of": "(source)",
+    },
+    "passes": {
+        "is_paper": "(source, thing)", "along": "(source, paper)", "shortened": "(source)", "loads": "(source)",
+        "inlining": "(source, place)", "improved": "(source)",
+    },
+    "rows": {
+        "is_row": "(value)", "control_of": "(row)", "open_of": "(row)", "is_face": "(value)", "fits": "(row, face)",
+        "is_view": "(value)", "view_of": "(row, room)", "joined": "(face, views)", "renumbered": "(row, order)",
+        "renumbered_face": "(face, order)",
+    },
+    "rowtexts": {"row_text": "(row)", "row_of": "(text)"},
 }
+PROGRAM = (1, (("m", (), (), (), (("go", "x", 1, ()),)),))
+MADE_OF = {"Run": PROGRAM, "Machine": (1, ((),), (((0,), (0,)),))}
 METHODS = {
     ("meaning", "Run"): {
         "__init__": "(self, program, number)", "go": "(self, steps)", "reach": "(self, length, steps)",
         "cells": "(self, room)",
     },
+    ("machine", "Machine"): {
+        "__init__": "(self, board, number)", "go": "(self, steps)", "cells": "(self, room)",
+        "put": "(self, room, address, number)", "copy": "(self)", "moment": "(self)",
+    },
 }
-PROPERTIES = {("meaning", "Run"): ["row", "steps", "state", "fault", "control"]}
+PROPERTIES = {
+    ("meaning", "Run"): ["row", "steps", "state", "fault", "control"],
+    ("machine", "Machine"): ["row", "steps", "state", "at", "registers", "open_asks"],
+}
 
 
 def tree_of(module):
@@ -59,7 +88,7 @@ class InterfaceTest(unittest.TestCase):
     def test_properties_are_there_from_the_begin(self):
         for (file, name), attributes in PROPERTIES.items():
             owner = getattr(importlib.import_module("ownharm." + file), name)
-            made = owner((1, (("m", (), (), (), (("go", "x", 1, ()),)),)), 0)
+            made = owner(MADE_OF[name], 0)
             for attribute in attributes:
                 self.assertTrue(hasattr(made, attribute))
 

@@ -10,7 +10,8 @@ import re
 import unittest
 
 PACKAGE = os.path.join(os.path.dirname(os.path.dirname(os.path.abspath(__file__))), "ownharm")
-ORDER = ["errors", "rooms", "roomtexts", "meaning", "alone", "sections", "sectiontexts"]
+ORDER = ["errors", "rooms", "roomtexts", "meaning", "alone", "sections", "sectiontexts", "machine", "compiling", "boards",
+         "changes", "passes", "rows", "rowtexts"]
 BUILTINS = set((
     "len range enumerate zip min max sum abs sorted reversed int str bool list tuple dict set isinstance ord repr any all "
     "divmod super property Exception ValueError TypeError KeyError IndexError LookupError"

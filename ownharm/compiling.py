@@ -1,0 +1,36 @@
+"""Rooms compiled: each one by itself into its own section of the machine."""
+
+from ownharm.boardcheck import MOST_CELLS
+from ownharm.errors import TooLarge
+from ownharm.needs import need_program, need_room_number
+from ownharm.roomlayer import laid_room
+from ownharm.rooms import room_wires
+
+
+def laid_section(program, room):
+    """BadProgram, BadRoomNumber, TooLarge; the cells laid for the room of the program with the number."""
+    need_program(program)
+    need_room_number(room, len(program[1]))
+    source = program[1][room]
+    code = laid_room(source, room_wires(program, source), program[0])
+    if len(code.laid) > MOST_CELLS:
+        raise TooLarge(room)
+    return code
+
+
+def layout(program, room):
+    """The dict from the names of the blocks of the room to the addresses of their first cells."""
+    code = laid_section(program, room)
+    return {block[0]: code.labels[("block", block[0])] for block in program[1][room][2]}
+
+
+def compiled(program, room):
+    """The section of the room."""
+    code = laid_section(program, room)
+    entries = [code.labels[("part", door[0])] for door in program[1][room][4]]
+    return (tuple(code.laid), tuple(entries))
+
+
+def places_of(program, room):
+    """The list of the places whose steps the cells of the room's section do, None for those that do none."""
+    return laid_section(program, room).places
