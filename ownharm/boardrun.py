@@ -18,7 +18,6 @@ class BoardRun:
         self.shown = [("start", number)]
         self.taken = 0
         self.condition = "running"
-        self.room = 0
         self.enter(0, 0)
 
     def enter(self, room, door):
@@ -41,10 +40,10 @@ class BoardRun:
             self.meet(act)
         return done
 
-    def reach(self, length, steps):
-        """Does so many steps, none once the row has so many crossings; None: however many it has."""
+    def go(self, steps):
+        """Does so many steps, fewer if it stops."""
         left = steps
-        while left > 0 and self.condition == "running" and (length is None or len(self.shown) < length):
+        while left > 0 and self.condition == "running":
             left -= self.advance(left)
 
     def meet(self, act):

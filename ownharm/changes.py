@@ -60,15 +60,6 @@ def changed(source, change):
     return new
 
 
-def loads_in(look, storing):
-    """The list of the loads that can be done in a part."""
-    found = []
-    for at in range(len(look.nodes)):
-        for name in sorted(loadable(look, storing, at)):
-            found.append(("load", look.part[0], at, name))
-    return found
-
-
 def changes_of(source):
     """The list of all changes that can be done but inlinings: by kinds, by parts, by nodes, by names."""
     need_room(source)
@@ -81,5 +72,7 @@ def changes_of(source):
             found.extend([(word, look.part[0], at) for at in ats])
     storing = Storing(source)
     for look in looks:
-        found.extend(loads_in(look, storing))
+        for at in range(len(look.nodes)):
+            names = sorted(loadable(look, storing, at))
+            found.extend([("load", look.part[0], at, name) for name in names])
     return found

@@ -46,7 +46,7 @@ class Machine:
     def go(self, steps):
         """Does so many steps more, fewer if it stops."""
         need_steps(steps)
-        self._run.reach(None, steps)
+        self._run.go(steps)
         self.at = self._run.place()
 
     def cells(self, room):

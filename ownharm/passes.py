@@ -1,7 +1,7 @@
 """Papers: lists of changes one behind another, and some that make rooms shorter."""
 
-from ownharm.changekinds import PLAIN_KINDS, SHORT_KINDS
-from ownharm.changes import loads_in, room_behind
+from ownharm.changekinds import PLAIN_KINDS, SHORT_KINDS, loadable
+from ownharm.changes import room_behind
 from ownharm.errors import BadChange
 from ownharm.inlines import fresh_names, function_run
 from ownharm.needs import need_room
@@ -71,20 +71,30 @@ def shortened(source):
     return paper
 
 
+def first_load(look, storing):
+    """The first load that can be done in a part, None if there is none."""
+    for at in range(len(look.nodes)):
+        names = sorted(loadable(look, storing, at))
+        if names:
+            return ("load", look.part[0], at, names[0])
+    return None
+
+
 def loads(source):
     """A paper of loads behind which none can be done."""
     need_room(source)
     paper = []
     room = source
+    # A load changes nothing of what is stored, run or asked.
     storing = Storing(source)
     for part in parts_of(source):
         look = PartLook(room, part)
-        found = loads_in(look, storing)
-        while found:
-            paper.append(found[0])
-            room = with_body(room, part[0], look.with_node(found[0][2], ("local", found[0][3])))
+        change = first_load(look, storing)
+        while change is not None:
+            paper.append(change)
+            room = with_body(room, part[0], look.with_node(change[2], ("local", change[3])))
             look = PartLook(room, part_called(room, part[0]))
-            found = loads_in(look, storing)
+            change = first_load(look, storing)
     return paper
 
 

@@ -35,7 +35,7 @@ class RowWalk:
 
     def can_follow(self, crossing):
         """Whether any value is a crossing that can follow."""
-        if not is_tuple(crossing, 1, 5) or not isinstance(crossing[0], str):
+        if not is_tuple(crossing, 1, 5):
             return False
         told = self.fields(crossing[0])
         if told is None or len(crossing) != 1 + len(told):

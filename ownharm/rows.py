@@ -115,7 +115,8 @@ class Joining:
     def join(self):
         """Puts the views together, from the first crossing to where the row ends."""
         first = self.next_item(0)
-        if first is None or first[0] != "in" or first[1] != 0:
+        # The first item of a view is an "in".
+        if first is None or first[1] != 0:
             raise Unfit(0, 0)
         self.counts[0] = 1
         self.joint.append(("start", first[2]))

@@ -348,9 +348,12 @@ class KindsTest(unittest.TestCase):
     if p
       give 1
     give 2
-  function two
+  function once p
+    if p
+      give 1
+  function ahead
     give 1
-    give 2
+    b[0] = 2
   function loop p
     while p
       p = (p - 1)
@@ -387,7 +390,10 @@ class KindsTest(unittest.TestCase):
         self.cannot(with_body("give f(1, 2)", ahead=self.INLINE), ("inline", "d", 0, good))
         self.cannot(with_body("y = 1", ahead=self.INLINE), ("inline", "d", 0, ()))
         self.cannot(with_body("y = early(1)", ahead=self.INLINE), ("inline", "d", 0, ("t0",)))
-        self.cannot(with_body("y = two()", ahead=self.INLINE), ("inline", "d", 0, ()))
+        self.cannot(with_body("y = once(1)", ahead=self.INLINE), ("inline", "d", 0, ("t0",)))
+        self.cannot(with_body("y = ahead()", ahead=self.INLINE), ("inline", "d", 0, ()))
+        for kind in ["fold", "peel", "load", "Inline", ""]:
+            self.cannot(source, (kind, "d", 0, good))
         self.cannot(with_body("y = b[0]", ahead=self.INLINE), ("inline", "d", 0, ()))
 
     def inline_room(self, inner, door, depth):

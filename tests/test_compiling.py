@@ -110,6 +110,29 @@ room sum
     give s[0]
 """)
 
+# What is run, with arguments and without, while values wait.
+RUNS = program_of("""depth 1
+room main
+  block c 5 6 7 8
+  function no
+    a = 9
+    b = (a * (a + 1))
+    give (b + 1)
+  function two p q
+    r = (p * 3)
+    give (r - q)
+  door go x 10000
+    y = (x + no())
+    z = (no() + x)
+    c[(x rest 4)] = no()
+    c[(no() rest 4)] = (x + no())
+    c[2] = two(1, x)
+    w = two(x, no())
+    v = two(no(), x)
+    u = two(two(x, 1), two(no(), two(2, x)))
+    give ((y + (z * no())) + (((w + v) * u) + (c[(no() rest 4)] + (c[1] * two(c[2], c[3])))))
+""")
+
 # Too many values wait for all of them to lie in registers.
 CHAIN = ("number", 3)
 for _k in range(1, 11):
@@ -190,12 +213,41 @@ room far
             states.append(watch.machine.state)
         self.assertEqual(states, ["running"] + ["done"] * 5 + ["end"])
 
+    def check_done(self, program, number):
+        """The machine shows what the source shows, which comes to an end without an undefined step."""
+        watch = self.watch(program, {}, number, 2000)
+        self.assertEqual((watch.machine.row, watch.faults), (source_row(program, number, 1000), []))
+        self.assertEqual(watch.machine.state, "done")
+
+    def test_runs_while_values_wait(self):
+        for number in [0, 1, 2, 3, 7, 100, 9999]:
+            self.check_done(RUNS, number)
+
     def test_more_values_than_registers(self):
         self.assertTrue(is_program(TALL))
         for number in range(9):
-            watch = self.watch(TALL, {}, number, 1000)
-            self.assertEqual((watch.machine.row, watch.faults), (source_row(TALL, number, 1000), []))
-            self.assertEqual(watch.machine.state, "done")
+            self.check_done(TALL, number)
+
+    def test_each_height_of_each_expression(self):
+        """An expression of each kind as the last operand while so many others wait, to the left or to the right."""
+        ask = ("ask", "o", "d", ("local", "x"))
+        lasts = [("number", 7), ("local", "x"), ("cell", "c", ("number", 2)), ("cell", "c", ("rest", ("local", "x"), ("number", 3))),
+                 ("run", "no", ()), ("run", "one", (("local", "x"),)), ask, ("same", ("local", "x"), ("number", 3)),
+                 ("less", ("number", 2), ask), ("same", ask, ask), ("minus", ("cell", "c", ("number", 1)), ("local", "x"))]
+        functions = (("no", (), (("let", "a", ("number", 8)), ("give", ("times", ("local", "a"), ("number", 5))))),
+                     ("one", ("p",), (("give", ("minus", ("local", "p"), ("run", "no", ()))),)))
+        other = ("o", (), (), (), (("d", "k", 10000, (("give", ("plus", ("local", "k"), ("number", 9))),)),))
+        for last in lasts:
+            for height in range(8):
+                right = left = last
+                for at in range(height):
+                    word = ("plus", "minus", "times", "same")[at % 4]
+                    right = (word, ("plus", ("local", "x"), ("number", at)), right)
+                    left = (word, left, ("plus", ("number", at), ("local", "x")))
+                body = (("let", "y", right), ("store", "c", ("number", 0), left), ("give", ("plus", ("local", "y"), (
+                    "cell", "c", ("number", 0)))))
+                room = ("main", (("o", "d"),), (("c", (1, 2, 3)),), functions, (("go", "x", 10000, body),))
+                self.check_done((1, (room, other)), 3)
 
     def test_drawn_programs_beside_drawn_sections(self):
         faults, crossings, states = 0, 0, {}
@@ -309,7 +361,7 @@ class SectionsTest(unittest.TestCase):
         self.assertEqual((machine.row, machine.registers), ([("start", 41), ("done", 2)], (2,) + (0,) * 9))
 
     def test_every_place_is_told_and_no_other_one(self):
-        for seed in range(120):
+        for seed in range(50):
             program = draw_program(seed, seed % 3 > 0)
             for room, source in enumerate(program[1]):
                 try:
@@ -322,7 +374,7 @@ class SectionsTest(unittest.TestCase):
                 self.assertEqual({place for place in told if place is not None}, places)
 
     def test_sections_and_layouts(self):
-        for seed in range(120):
+        for seed in range(50):
             program = draw_program(seed, seed % 3 > 0)
             for room, source in enumerate(program[1]):
                 try:

@@ -300,7 +300,7 @@ class RenumberedTest(unittest.TestCase):
         good = [[0, 1, 2], [0, 2, 1]]
         for order in good:
             self.assertTrue(fits(renumbered(row, order), renumbered_face(face, order)))
-        wrong = [[], [0], [0, 1], [1, 0, 2], [0, 1, 1], [0, 0, 1], [0, 1, 6], [0, 1, -1], [False, 1, 2], [0, True, 2],
+        wrong = [[], [0], [0, 1], [0, 2], [1, 0, 2], [0, 1, 1], [0, 0, 1], [0, 1, 6], [0, 1, -1], [False, 1, 2], [0, True, 2],
                  [0, 1, None], [0, 1, "2"], [0, 1, (2,)], [0, 1, 10 ** 99], {0: 0, 1: 1, 2: 2}, "012", [0, 1, [2]],
                  [0, 1, 2, 3, 4, 5, 6], [0, 1, 2, 3, 4, 5, 5]]
         for order in wrong + odd_values():
