@@ -10,19 +10,19 @@ class CodeCells:
     """
 
     def __init__(self):
-        self.laid = []
+        self.numbers = []
         self.places = []
         self.labels = {}
         self.holes = []
 
     def put_number(self, number):
         """Lays a cell that holds a number and does no step."""
-        self.laid.append(number)
+        self.numbers.append(number)
         self.places.append(None)
 
     def put(self, told, place=None):
         """Lays an instruction, which does the step of the place, if one is told."""
-        self.laid.append(instruction_number(told))
+        self.numbers.append(instruction_number(told))
         self.places.append(place)
 
     def put_set(self, reg, number, place=None):
@@ -33,7 +33,7 @@ class CodeCells:
     def put_label(self, reg, label):
         """Lays a set of a register to what the label will tell."""
         self.put(("set", reg))
-        self.holes.append((len(self.laid), label))
+        self.holes.append((len(self.numbers), label))
         self.put_number(0)
 
     def put_leap(self, reg, label, place=None):
@@ -53,9 +53,9 @@ class CodeCells:
 
     def mark(self, label):
         """The label tells the address of the cell that is laid next."""
-        self.labels[label] = len(self.laid)
+        self.labels[label] = len(self.numbers)
 
     def fill(self):
         """Fills in what the labels tell."""
         for at, label in self.holes:
-            self.laid[at] = self.labels[label]
+            self.numbers[at] = self.labels[label]

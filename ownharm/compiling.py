@@ -13,7 +13,7 @@ def laid_section(program, room):
     need_room_number(room, len(program[1]))
     source = program[1][room]
     code = laid_room(source, room_wires(program, source), program[0])
-    if len(code.laid) > MOST_CELLS:
+    if len(code.numbers) > MOST_CELLS:
         raise TooLarge(room)
     return code
 
@@ -28,7 +28,7 @@ def compiled(program, room):
     """The section of the room."""
     code = laid_section(program, room)
     entries = [code.labels[("part", door[0])] for door in program[1][room][4]]
-    return (tuple(code.laid), tuple(entries))
+    return (tuple(code.numbers), tuple(entries))
 
 
 def places_of(program, room):

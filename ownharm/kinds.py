@@ -5,6 +5,8 @@ MOST_OPEN = 60
 MOST_ROOMS = 6
 MOST_IMPORTS = 8
 MOST_DOORS = 6
+# The act with which a room ends the run.
+ENDS = ("ends",)
 WORDS = ("block", "depth", "door", "else", "function", "give", "if", "rest", "room", "stop", "uses", "while")
 
 

@@ -28,7 +28,7 @@ def laid_room(source, wires, depth):
     size = laid_parts(code, source, wires)
     code.tell("size", size)
     # The entry of a door goes one frame on, the first one too.
-    code.laid[CURRENT] = (len(code.laid) - size) % MODULUS
+    code.numbers[CURRENT] = (len(code.numbers) - size) % MODULUS
     # No room asks itself: of two runnings of its doors that are open at once one asks and is asked again behind it.
     frames = depth // 2 + 1
     for _ in range(frames * size):

@@ -1,7 +1,7 @@
 """Judges any value: whether it is a row, a face, a view."""
 
 from ownharm.boardcheck import are_wires
-from ownharm.kinds import MOST_DOORS, MOST_OPEN, MOST_ROOMS, is_number, is_tuple, is_whole
+from ownharm.kinds import ENDS, MOST_DOORS, MOST_OPEN, MOST_ROOMS, is_number, is_tuple, is_whole
 
 # What may stand in a crossing, as tuples (low, high, other): a whole from low to high that is not the other one.
 NUMBER = (0, 9999, None)
@@ -118,7 +118,7 @@ def good_view(value):
         return False
     waiting = 0
     for at, item in enumerate(value):
-        if at > 0 and value[at - 1] == ("ends",):
+        if at > 0 and value[at - 1] == ENDS:
             return False
         if not (good_event(item) if at % 2 == 0 else good_act(item)):
             return False

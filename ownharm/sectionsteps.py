@@ -1,8 +1,6 @@
 """One step of each instruction: what it does to a section at work; the act that it comes to, or None."""
 
-from ownharm.kinds import MODULUS
-
-ENDS = ("ends",)
+from ownharm.kinds import ENDS, MODULUS
 
 
 def do_stop(work, b, c, d):

@@ -31,9 +31,9 @@ def tokens_in(line):
 class TokenLine:
     """A line that is read token by token; what cannot stand raises BadText with its place."""
 
-    def __init__(self, number, tokens):
+    def __init__(self, line, tokens):
         last, column = tokens[-1]
-        self.number = number
+        self.line = line
         self.tokens = tokens + [(END, column + len(last))]
         self.indent = tokens[0][1] - 1
         self.taken = 0
@@ -44,7 +44,7 @@ class TokenLine:
 
     def place(self):
         """The line and the column of the next token."""
-        return (self.number, self.tokens[self.taken][1])
+        return (self.line, self.tokens[self.taken][1])
 
     def fail(self):
         """The next token cannot stand here."""

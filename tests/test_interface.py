@@ -45,9 +45,32 @@ FUNCTIONS = {
         "renumbered_face": "(face, order)",
     },
     "rowtexts": {"row_text": "(row)", "row_of": "(text)"},
+    "viewtrees": {
+        "is_tree": "(value)", "tree_of": "(views)", "act_behind": "(tree, events)", "least_tree": "(tree)",
+    },
+    "making": {"made": "(program, room, tree)", "made_all": "(program, row)"},
+    "explaining": {
+        "exchanged": "(program, row, rooms)", "explained": "(program, row, foreign=(), steps=200000)",
+        "is_explained": "(program, row, foreign, value, steps=200000)",
+        "sound_row": "(program, row, foreign=(), steps=200000)", "beside": "(programs, rows, rooms)",
+    },
+    "wishes": {
+        "is_small": "(value)", "is_wish": "(value)", "wish_state": "(wish, view)", "broken_at": "(wish, view)",
+    },
+    "levels": {
+        "contents": "(small, levels=None)", "closed_level": "(small)", "harm": "(small, levels=None)",
+        "is_harmless": "(small, levels=None)", "breaking": "(small, wish, levels=None)",
+        "is_kept": "(small, wish, levels=None)", "parting": "(one, other, levels=None)",
+        "are_alike": "(one, other, levels=None)",
+    },
+    "partners": {
+        "is_play": "(small, value)", "partner": "(small, play)", "parting_partner": "(one, other, levels=None)",
+    },
 }
 PROGRAM = (1, (("m", (), (), (), (("go", "x", 1, ()),)),))
-MADE_OF = {"Run": PROGRAM, "Machine": (1, ((),), (((0,), (0,)),))}
+MADE_OF = {
+    "Run": (PROGRAM, 0), "Machine": ((1, ((),), (((0,), (0,)),)), 0), "Bench": (PROGRAM, 0), "Desk": (),
+}
 METHODS = {
     ("meaning", "Run"): {
         "__init__": "(self, program, number)", "go": "(self, steps)", "reach": "(self, length, steps)",
@@ -57,10 +80,19 @@ METHODS = {
         "__init__": "(self, board, number)", "go": "(self, steps)", "cells": "(self, room)",
         "put": "(self, room, address, number)", "copy": "(self)", "moment": "(self)",
     },
+    ("bench", "Bench"): {
+        "__init__": "(self, program, number)", "go": "(self, steps)", "write": "(self, room, address, number)",
+        "lay": "(self, room, section)", "recompile": "(self, room)", "rewrite": "(self, room, source)",
+        "begin": "(self, number)", "settle": "(self)", "keep": "(self, name)", "back": "(self, name)", "undo": "(self)",
+        "cells": "(self, room)", "blames": "(self, steps=200000)", "row_at": "(self, at)", "copy": "(self)",
+        "tried": "(self, task)", "__len__": "(self)", "__eq__": "(self, other)",
+    },
+    ("desk", "Desk"): {"__init__": "(self)", "say": "(self, line)"},
 }
 PROPERTIES = {
     ("meaning", "Run"): ["row", "steps", "state", "fault", "control"],
     ("machine", "Machine"): ["row", "steps", "state", "at", "registers", "open_asks"],
+    ("bench", "Bench"): ["program", "number", "laid", "touched", "row", "state", "steps", "kept", "log"],
 }
 
 
@@ -83,12 +115,13 @@ class InterfaceTest(unittest.TestCase):
             owner = getattr(importlib.import_module("ownharm." + file), name)
             for method, told in table.items():
                 self.assertIn(method, vars(owner))
+                self.assertTrue(callable(getattr(owner(*MADE_OF[name]), method)))
                 self.assertEqual(str(inspect.signature(vars(owner)[method])), told)
 
     def test_properties_are_there_from_the_begin(self):
         for (file, name), attributes in PROPERTIES.items():
             owner = getattr(importlib.import_module("ownharm." + file), name)
-            made = owner(MADE_OF[name], 0)
+            made = owner(*MADE_OF[name])
             for attribute in attributes:
                 self.assertTrue(hasattr(made, attribute))
 

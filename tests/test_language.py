@@ -11,7 +11,8 @@ import unittest
 
 PACKAGE = os.path.join(os.path.dirname(os.path.dirname(os.path.abspath(__file__))), "ownharm")
 ORDER = ["errors", "rooms", "roomtexts", "meaning", "alone", "sections", "sectiontexts", "machine", "compiling", "boards",
-         "changes", "passes", "rows", "rowtexts"]
+         "changes", "passes", "rows", "rowtexts", "viewtrees", "making", "explaining", "wishes", "levels", "partners", "bench",
+         "desk"]
 BUILTINS = set((
     "len range enumerate zip min max sum abs sorted reversed int str bool list tuple dict set isinstance ord repr any all "
     "divmod super property Exception ValueError TypeError KeyError IndexError LookupError"
@@ -35,7 +36,7 @@ BARRED_WORDS = ["type", "typing", "enum", "Enum", "Flag", "Generic", "Protocol",
                 "TypedDict", "abstractmethod"]
 NODES = (
     ast.Global, ast.AsyncFunctionDef, ast.AsyncFor, ast.AsyncWith, ast.Await, ast.Lambda, ast.GeneratorExp, ast.Yield,
-    ast.YieldFrom, ast.Try, ast.With, ast.Match, ast.NamedExpr, ast.Nonlocal, ast.Import, ast.Div, ast.MatMult, ast.AnnAssign,
+    ast.YieldFrom, ast.With, ast.Match, ast.NamedExpr, ast.Nonlocal, ast.Import, ast.Div, ast.MatMult, ast.AnnAssign,
     ast.Set, ast.SetComp, ast.Assert,
 )
 
@@ -78,6 +79,8 @@ def names_bound(tree):
             found.append(node.name)
         elif isinstance(node, ast.alias):
             found.append(node.asname or node.name)
+        elif isinstance(node, ast.ExceptHandler) and node.name is not None:
+            found.append(node.name)
     return found
 
 
@@ -177,6 +180,31 @@ class CodeTest(unittest.TestCase):
                         if isinstance(sign, (ast.Is, ast.IsNot)):
                             self.assertTrue(isinstance(right, ast.Constant) and right.value in (None, True, False))
 
+    def test_tries(self):
+        own = {node.name for node in classes_in(trees()["errors"])}
+        for name, tree in trees().items():
+            for node in ast.walk(tree):
+                if not isinstance(node, ast.Try):
+                    continue
+                for handler in node.handlers:
+                    self.assertIn(handler.type.id, own)
+                    used = [one for one in ast.walk(handler) if isinstance(one, ast.Name) and one.id == handler.name]
+                    fields = [one for one in ast.walk(handler) if isinstance(one, ast.Attribute)
+                              and isinstance(one.value, ast.Name) and one.value.id == handler.name]
+                    self.assertEqual(len(used), len(fields), name)
+                for inner in node.finalbody:
+                    self.assertIsInstance(inner, ast.If)
+                    self.assertRegex(ast.unparse(inner.test), r"\A[a-z]+ is None\Z")
+                    self.assertEqual(inner.orelse, [])
+                    for one in inner.body:
+                        self.assertRegex(ast.unparse(one), r"\Aself\._[a-z]+ = [a-z]+\Z")
+
+    def test_equality(self):
+        for name, tree in trees().items():
+            for node in functions_in(tree):
+                if node.name in ("__eq__", "__len__"):
+                    self.assertEqual([type(row) for row in node.body], [ast.Expr, ast.Return], name)
+
     def test_classes(self):
         for name, tree in trees().items():
             self.assertEqual(len(classes_in(tree)), len([n for n in ast.walk(tree) if isinstance(n, ast.ClassDef)]))
@@ -189,7 +217,8 @@ class CodeTest(unittest.TestCase):
                     self.assertTrue(not node.name.startswith("__") or node.name in DUNDERS)
                     self.assertEqual(node.args.args[0].arg, "self")
             for function in functions_in(tree):
-                self.assertTrue(all(isinstance(one, ast.Constant) for one in function.args.defaults))
+                self.assertTrue(all(isinstance(one, ast.Constant) or ast.unparse(one) == "()"
+                                    for one in function.args.defaults))
                 self.assertEqual((function.args.vararg, function.args.kwarg, function.args.kwonlyargs), (None, None, []))
             for node in tree.body:
                 if isinstance(node, ast.FunctionDef):
@@ -201,7 +230,7 @@ class CodeTest(unittest.TestCase):
             imported = [alias.name for node in imports_in(tree) for alias in node.names]
             owners = [node.name for node in classes_in(tree)]
             for word in names_bound(tree):
-                self.assertRegex(word, r"\A(__init__|_?[A-Za-z][A-Za-z0-9_]*|_)\Z")
+                self.assertRegex(word, r"\A(__init__|__len__|__eq__|_?[A-Za-z][A-Za-z0-9_]*|_)\Z")
                 self.assertNotIn(word, BARRED)
                 self.assertNotIn(word, dir(builtins))
                 self.assertIsNone(re.match("_wall|_pe_|_dcw_|_enum_|_cm_|_twin_re_|_lay_|_law_|_stub_|_sre|_cold", word))
