@@ -3,11 +3,10 @@
 from ownharm.boardcheck import good_section
 from ownharm.boardrun import BoardRun
 from ownharm.boards import board_of
-from ownharm.errors import BadAddress, BadMoment, BadName, BadProgram, BadSection, NothingDone, NotKept, NotLaid
+from ownharm.errors import BadAddress, BadMoment, BadName, BadSection, NothingDone, NotKept, NotLaid
 from ownharm.explaining import exchanged, explained
 from ownharm.kinds import good_name, is_whole
 from ownharm.needs import MOST_STEPS, need_number, need_program, need_room, need_room_number, need_steps
-from ownharm.roomcheck import good_program
 
 
 class Moment:
@@ -27,7 +26,7 @@ class Moment:
 
 
 def fresh_moment(plan, begun, foreign, shelf):
-    """The moment at which the machine has just begun; TooLarge."""
+    """The moment at which the machine has just begun; BadProgram, TooLarge."""
     return Moment(plan, begun, foreign, BoardRun(board_of(plan, foreign), begun), (), shelf)
 
 
@@ -143,10 +142,8 @@ class Bench:
         now = self._moments[-1]
         sources = list(now.plan[1])
         sources[room] = source
-        plan = (now.plan[0], tuple(sources))
-        if not good_program(plan):
-            raise BadProgram("with this room it is no program")
-        self._stand(("rewrite", room, source), fresh_moment(plan, now.begun, self._laid_but(room), now.shelf))
+        moment = fresh_moment((now.plan[0], tuple(sources)), now.begun, self._laid_but(room), now.shelf)
+        self._stand(("rewrite", room, source), moment)
 
     def begin(self, number):
         """The machine begins anew with this number."""
@@ -196,7 +193,6 @@ class Bench:
 
     def blames(self, steps=200000):
         """Who did harm, the touched rooms being foreign."""
-        need_steps(steps)
         return explained(self.program, self.row, self.touched, steps)
 
     def row_at(self, at):

@@ -3,7 +3,7 @@
 from ownharm.errors import BadRow, BadTree, TooMany
 from ownharm.needs import need_program, need_room_number
 from ownharm.rooms import face_of, room_wires
-from ownharm.rows import fits, is_row, view_of
+from ownharm.rows import fits, view_of
 from ownharm.treerooms import room_doing
 from ownharm.viewtrees import least_tree, need_tree, tree_of
 
@@ -37,9 +37,9 @@ def made(program, room, tree):
 
 def need_fitting_row(program, row):
     """BadProgram, BadRow for what is no row that fits the face of the program."""
-    face = face_of(program)
-    if not is_row(row) or not fits(row, face):
-        raise BadRow("the value is no row that fits the program")
+    # What is no row at all is told by fits.
+    if not fits(row, face_of(program)):
+        raise BadRow("the row does not fit the program")
 
 
 def with_made(program, row, rooms):

@@ -45,6 +45,7 @@ class WishMoves:
         self.turns = turns
         self.wish = wish
         self.pairs = Ledger(None)
+        self.known = {}
 
     def first_shared(self):
         """What is shared at first."""
@@ -52,15 +53,22 @@ class WishMoves:
 
     def told_events(self, head, modulus, state):
         """The list of the events with this head that the room or the wish tells apart, each with the state behind."""
+        key = (head, modulus, state)
+        if key not in self.known:
+            self.known[key] = self.split_events(head, modulus, state)
+        return self.known[key]
+
+    def split_events(self, head, modulus, state):
+        """The same, worked out: the least number of each kind stands for all."""
         cuts = [0] + [rule[3] for rule in self.wish[1]] + [rule[4] + 1 for rule in self.wish[1]]
         cuts = sorted(set(cuts)) + [MODULUS]
-        known = {}
+        least = {}
         for begin, end in zip(cuts, cuts[1:]):
             # From one cut to the next one the wish does the same with all numbers.
             after = state_behind(self.wish, state, (*head, begin))
             for number in range(begin, min(end, begin + modulus)):
-                known.setdefault((number % modulus, after), (*head, number))
-        return [(event, after) for (_, after), event in known.items()]
+                least.setdefault((number % modulus, after), (*head, number))
+        return [(event, after) for (_, after), event in least.items()]
 
     def moves_of(self, running, shared):
         """The list of the moves while this running waits last; without one, of those that begin a new one."""

@@ -46,7 +46,7 @@ def is_rule(value, states):
     if not is_tuple(value, 6, 6):
         return False
     state, word, door, low, high, after = value
-    if not is_whole(state, 0, states - 1) or not isinstance(word, str) or word not in WORDS:
+    if not is_whole(state, 0, states - 1) or word not in WORDS:
         return False
     if door is not None and not (word in ("in", "calls") and is_field(door, DOOR)):
         return False
@@ -68,18 +68,12 @@ def need_wish(wish):
         raise BadWish("the value is no wish")
 
 
-def door_of(item):
-    """The door of an item of a view, None if it has none."""
-    if item[0] == "in" or item[0] == "calls":
-        return item[-2]
-    return None
-
-
 def state_behind(wish, state, item):
     """The state of a wish behind one item more, None if the item breaks it."""
     number = 0 if item == ENDS else item[-1]
     for own, word, door, low, high, after in wish[1]:
-        if own == state and word == item[0] and (door is None or door == door_of(item)) and low <= number <= high:
+        # A rule tells a door of "in" and "calls" alone, and there it stands ahead of the number.
+        if own == state and word == item[0] and (door is None or door == item[-2]) and low <= number <= high:
             return after
     return state
 

@@ -224,6 +224,18 @@ class DeedsTest(unittest.TestCase):
         bench.begin(0)
         self.assertEqual((bench.touched, bench.cells(1)), ((), cells))
 
+    def test_just_the_cells_of_the_section(self):
+        bench = Bench(PROGRAM, 0)
+        bench.lay(1, ((1, 2, 3), (7,)))
+        for room in (0, 1):
+            many = len(bench.cells(room))
+            bench.write(room, many - 1, 4321)
+            self.assertEqual(bench.cells(room)[many - 1], 4321)
+            for address in (many, many + 1, -1, 4000):
+                with self.assertRaises(BadAddress):
+                    bench.write(room, address, 0)
+        self.assertEqual(len(bench), 3)
+
     def test_write_behind_the_end(self):
         bench = Bench(PROGRAM, 0)
         bench.go(1000)

@@ -383,6 +383,14 @@ class ErrorsTest(unittest.TestCase):
                     function(program, row, rooms)
             with self.assertRaises(TooMany):
                 is_explained(program, row, rooms, [])
+        # Each parameter comes ahead of what the rooms do.
+        for function in (explained, sound_row):
+            with self.assertRaises(BadSteps):
+                function(program, row, (0,), -1)
+        with self.assertRaises(BadSteps):
+            is_explained(program, row, (0,), [], -1)
+        with self.assertRaises(BadRooms):
+            explained(program, row, (0, 2), -1)
         # The room is made only behind its blame.
         with self.assertRaises(TooMany):
             explained(program, row)

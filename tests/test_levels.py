@@ -128,20 +128,18 @@ class ContentsTest(unittest.TestCase):
             is_harmless(wide)
 
     def test_a_turn_of_2000_steps(self):
-        # The let is 2 steps, each turn of the loop 8, its last test 4, the give 2; so 8 more for each further turn.
-        for more, steps in [("", 2000), ("    y = i\n", 2002)]:
-            for rounds in (249,):
-                small = small_room(f"  block s 0\n  door d x 1\n    i = 0\n    while (i < {rounds})\n      i = (i + 1)\n{more}    give i")
-                act = view_alone(beside_partner(small), 1, [("in", 0, 0)], steps)
-                self.assertEqual(act[-1], ("gives", rounds))
-                self.assertEqual(view_alone(beside_partner(small), 1, [("in", 0, 0)], steps - 1), [("in", 0, 0)])
-                if steps <= 2000:
-                    self.assertEqual(contents(small), [((0,),)])
-                    self.assertTrue(is_harmless(small))
-                else:
-                    for task in [contents, harm, is_harmless, closed_level]:
-                        with self.assertRaises(TooLong):
-                            task(small)
+        # The let is 2 steps, each of 249 turns of the loop 8, its last test 4; then 1 at the end of the body.
+        for last, steps in [("", 1999), ("    give i\n", 2000), ("    y = i\n", 2001), ("    give (i + 0)\n", 2002)]:
+            small = small_room(f"  block s 0\n  door d x 1\n    i = 0\n    while (i < 249)\n      i = (i + 1)\n{last}")
+            self.assertEqual(view_alone(beside_partner(small), 1, [("in", 0, 0)], steps)[-1][0], "gives")
+            self.assertEqual(view_alone(beside_partner(small), 1, [("in", 0, 0)], steps - 1), [("in", 0, 0)])
+            if steps <= 2000:
+                self.assertEqual(contents(small), [((0,),)])
+                self.assertTrue(is_harmless(small))
+            else:
+                for task in [contents, harm, is_harmless, closed_level]:
+                    with self.assertRaises(TooLong):
+                        task(small)
 
     def test_too_long_behind_an_answer_and_with_some_levels_alone(self):
         loop = small_room("  uses o.p\n  door d x 1\n    while (o.p(0) rest 2)\n      y = (o.p(1) rest 2)\n    while 1\n      y = 0")
@@ -338,6 +336,14 @@ class WishTest(unittest.TestCase):
             ((2, ((0, "in", None, 3001, 3003, 1), (1, "calls", None, 0, 0, None))), 2),
             ((2, ((0, "in", None, 3001, 3002, 1), (1, "calls", None, 0, 0, None))), 4),
             ((2, ((0, "in", None, 3001, 3002, 1), (1, "calls", None, 2, 2, None))), 2),
+            ((2, ((0, "in", None, 3001, 3002, 1), (1, "calls", None, 1, 1, None))), 2),
+            # Both ends of what a rule lets, and just beyond them.
+            ((2, ((0, "in", None, 3001, 3001, 1), (1, "calls", None, 1, 1, None))), 2),
+            ((2, ((0, "in", None, 3002, 3002, 1), (1, "calls", None, 1, 1, None))), 4),
+            ((2, ((0, "in", None, 3000, 3000, 1), (1, "calls", None, 1, 1, None))), 4),
+            ((2, ((0, "in", None, 0, 0, 1), (1, "calls", None, 0, 0, None))), 2),
+            ((2, ((0, "in", None, 9999, 9999, 1), (1, "calls", None, 0, 0, None))), 2),
+            ((2, ((0, "in", None, 9998, 9998, 1), (1, "calls", None, 0, 0, None))), 4),
             ((2, ((0, "got", None, 7000, 7000, 1), (1, "gives", None, 0, 0, None))), 4),
             # 7001 is 1 for the room: only a running that goes on later gives 0.
             ((2, ((0, "got", None, 7001, 7001, 1), (1, "gives", None, 0, 0, None))), 8),

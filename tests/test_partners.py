@@ -91,10 +91,11 @@ class IsPlayTest(unittest.TestCase):
         self.assertIs(is_play(HARMFUL, [("in", 0, 1), ("ends",), ("in", 0, 1)]), False)
 
     def test_turns_of_2000_steps(self):
-        for more, good in [("", True), ("    y = i\n", False)]:
-            small = small_room(f"  block s 0\n  door d x 1\n    i = 0\n    while (i < 249)\n      i = (i + 1)\n{more}    give i")
+        # 2000 steps, and 2001.
+        for last, number, good in [("    give i\n", 249, True), ("    y = i\n", 0, False)]:
+            small = small_room(f"  block s 0\n  door d x 1\n    i = 0\n    while (i < 249)\n      i = (i + 1)\n{last}")
             self.assertIs(is_play(small, [("in", 0, 0)]), True)
-            self.assertIs(is_play(small, [("in", 0, 0), ("gives", 249)]), good)
+            self.assertIs(is_play(small, [("in", 0, 0), ("gives", number)]), good)
 
     def test_other_values(self):
         for value in odd_values():

@@ -124,7 +124,6 @@ class IsWishTest(unittest.TestCase):
     def test_each_item_of_a_rule(self):
         states = [0, 1, 2]
         doors = [None, 0, 5]
-        numbers = [0, 1, 9999]
         good = {0: states, 1: ["in", "calls"], 2: doors, 3: [0, 1], 4: [3, 9999], 5: states + [None]}
         odd = odd_values() + [3, 6, -1, 10000, "In", "got", "gives", "ends", "calls", "in"]
         base = (2, "in", 1, 1, 3, 2)
@@ -139,7 +138,12 @@ class IsWishTest(unittest.TestCase):
                     right = 0 <= rule[3] <= rule[4] <= 9999
                 self.assertIs(is_wish((3, (rule,))), right, rule)
                 self.assertIs(is_wish((3, (base, rule))), right, rule)
-        self.assertEqual(len(numbers), 3)
+                # And with a word that has no door.
+                plain = (2, "got", None, 1, 3, 2)
+                rule = plain[:at] + (value,) + plain[at + 1:]
+                if at in (1, 2):
+                    right = value in ("in", "got", "calls", "gives", "ends") if at == 1 else value is None
+                    self.assertIs(is_wish((3, (rule,))), right, rule)
 
     def test_doors_and_words(self):
         for word in ["in", "got", "calls", "gives", "ends"]:
