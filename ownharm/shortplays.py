@@ -4,6 +4,9 @@ A stage is all that plays do from one moment on, at which the partner has contro
 there go on. It hangs on what is shared at its begin alone, so one stage serves for all moments that are alike.
 """
 
+# How many items a turn has, but for a last one.
+TURN = 2
+
 
 class Found:
     """What a play in a stage comes to.
@@ -37,7 +40,7 @@ class Found:
 
 
 class Stage:
-    """since is when the stage was first entered.
+    """since is with how many items the stage was first entered.
 
     offers are the lists of the pairs (cost, height) with which each moment has been offered, heights the least ones
     with which it has been looked at. over are the plays behind which no running of the stage is open, and those that
@@ -59,40 +62,70 @@ class Stage:
         return False
 
 
+def items_left(moves, most):
+    """The dict from what is shared to how many items a play needs at least from there to a goal, up to the most.
+
+    Whatever waits is left out here: what leads from one moment to the next one may be the move of any running.
+    """
+    layers = [[] for _ in range(most + 1)]
+    sources = {}
+    for (_, shared), known in moves.items():
+        for word, items, _, behind in known:
+            if word == "goal":
+                layers[len(items)].append(shared)
+            else:
+                sources.setdefault(behind, []).append(shared)
+    left = {}
+    for cost in range(most + 1):
+        for shared in list(layers[cost]):
+            if shared not in left:
+                left[shared] = cost
+                if cost + TURN <= most:
+                    layers[cost + TURN].extend(sources.get(shared, []))
+    return left
+
+
 class PlaySearch:
-    """Looks for the shortest play among those that a walk has met; queue has for each cost what is found with it."""
+    """Looks for the shortest play among those that a walk has met.
+
+    left tells how many items are needed at least from what is shared to a goal; queue has, for each count of items
+    that a play to a goal has at least, what is found of such plays.
+    """
 
     def __init__(self, walk, levels, most):
         self.moves = walk.moves
         self.levels = levels
+        self.left = items_left(walk.moves, most)
         self.queue = [[] for _ in range(most + 1)]
         self.stages = {}
         self.first = self.stage_from(walk.first, 0)
 
     def shortest(self):
         """What the shortest play comes to, None if it has more items than the most."""
-        for time in range(len(self.queue)):
+        for items in range(len(self.queue)):
             at = 0
             # What is found may cost nothing more: the queue grows while it is gone through.
-            while at < len(self.queue[time]):
-                found = self.queue[time][at]
+            while at < len(self.queue[items]):
+                found = self.queue[items][at]
                 at += 1
                 if found.kind == "goal" and found.stage == self.first:
                     return found
-                self.look_at(found, time)
+                self.look_at(found)
         return None
 
-    def stage_from(self, shared, time):
-        """The stage that begins with this, entered now."""
+    def stage_from(self, shared, since):
+        """The stage that begins with this, entered now with so many items."""
         if shared not in self.stages:
-            self.stages[shared] = Stage(time)
+            self.stages[shared] = Stage(since)
             self.offered(self.stages[shared], "free", None, shared, 0, 0)
         return self.stages[shared]
 
     def offered(self, stage, kind, running, shared, cost, height):
         """Puts what a play comes to into the queue and returns it; None if that is of no use."""
-        time = stage.since + cost
-        if height > self.levels or time >= len(self.queue):
+        if height > self.levels or (kind != "goal" and shared not in self.left):
+            return None
+        items = stage.since + cost + (0 if kind == "goal" else self.left[shared])
+        if items >= len(self.queue):
             return None
         moment = (kind, running, shared)
         if stage.is_useless(moment, cost, height):
@@ -102,10 +135,10 @@ class PlaySearch:
             return None
         stage.offers.setdefault(moment, []).append((cost, height))
         found = Found(stage, kind, running, shared, cost, height)
-        self.queue[time].append(found)
+        self.queue[items].append(found)
         return found
 
-    def look_at(self, found, time):
+    def look_at(self, found):
         """Goes on from what is found, if nothing as good has been found ahead of it."""
         stage = found.stage
         moment = (found.kind, found.running, found.shared)
@@ -113,7 +146,7 @@ class PlaySearch:
             return
         stage.heights[moment] = found.height
         if found.kind == "ask":
-            self.enter(found, time)
+            self.enter(found)
             return
         if found.running is None:
             stage.over.append(found)
@@ -137,9 +170,9 @@ class PlaySearch:
             if word == "goal":
                 behind.told = running
 
-    def enter(self, found, time):
+    def enter(self, found):
         """A running asks: the stage above it is entered."""
-        stage = self.stage_from(found.shared, time)
+        stage = self.stage_from(found.shared, found.stage.since + found.cost)
         stage.askers.append(found)
         for over in list(stage.over):
             self.come_back(found, over)
