@@ -48,7 +48,8 @@ def moved(program, room, state, event, steps=2000):
     if not is_event(source, state[1], event):
         raise BadEvent("the value is no event in this state")
     need_steps(steps)
-    alone = RoomAlone(source, room_wires(program, source), state)
+    alone = RoomAlone(source, room_wires(program, source))
+    alone.enter_state(state)
     act = outcome(alone, event, steps)
     if ends_all(act):
         return (None, act)
@@ -61,7 +62,7 @@ def view_alone(program, room, events, steps=2000):
     if not isinstance(events, (list, tuple)):
         raise BadEvents(None)
     need_steps(steps)
-    alone = RoomAlone(source, room_wires(program, source), starting_state(source))
+    alone = RoomAlone(source, room_wires(program, source))
     view = []
     for at, event in enumerate(events):
         if not is_event(source, alone.waits, event):

@@ -1,33 +1,56 @@
 """A bench: a program on the machine, with deeds that can be taken back, and the blame at any moment."""
 
 from ownharm.boardcheck import good_section
-from ownharm.boardrun import BoardRun
-from ownharm.boards import board_of
-from ownharm.errors import BadAddress, BadMoment, BadName, BadSection, NothingDone, NotKept, NotLaid
-from ownharm.explaining import exchanged, explained
+from ownharm.boardrun import begun_run
+from ownharm.boards import board_in
+from ownharm.compiling import section_with
+from ownharm.errors import BadAddress, BadMoment, BadName, BadProgram, BadSection, NothingDone, NotKept, NotLaid
+from ownharm.explaining import explanation_of
 from ownharm.kinds import good_name, is_whole
 from ownharm.needs import MOST_STEPS, need_number, need_program, need_room, need_room_number, need_steps
+from ownharm.roomcheck import are_joined
+from ownharm.rooms import all_wires
+
+BLAME_STEPS = 200000
+# One room, of which the door gives 0.
+LEAST_PROGRAM = (1, (("m", (), (), (), (("go", "x", 1, ()),)),))
 
 
 class Moment:
     """All of a bench at one moment. Nothing in it is ever changed: a deed makes a new one.
 
-    plan is the program, begun the number, foreign the dict of what is laid, run the machine, marks the tuple of the
-    rooms written into since it began, shelf the dict of the moments that are kept.
+    plan is the program, begun the number, foreign the dict of what is laid, board what the machine began with, run
+    the machine, marks the tuple of the rooms written into since it began, shelf the dict of the moments that are kept.
     """
 
-    def __init__(self, plan, begun, foreign, run, marks, shelf):
+    def __init__(self, plan, begun, foreign, board, run, marks, shelf):
         self.plan = plan
         self.begun = begun
         self.foreign = foreign
+        self.board = board
         self.run = run
         self.marks = marks
         self.shelf = shelf
 
 
-def fresh_moment(plan, begun, foreign, shelf):
-    """The moment at which the machine has just begun; BadProgram, TooLarge."""
-    return Moment(plan, begun, foreign, BoardRun(board_of(plan, foreign), begun), (), shelf)
+def fresh_moment(plan, begun, foreign, board, shelf):
+    """The moment at which the machine has just begun."""
+    return Moment(plan, begun, foreign, board, begun_run(board, begun), (), shelf)
+
+
+def changed_moment(now, plan, foreign):
+    """The moment at which the machine has just begun with another program, or other sections laid; TooLarge."""
+    wires = all_wires(plan)
+    sections = []
+    for room, source in enumerate(plan[1]):
+        if room in foreign:
+            sections.append(foreign[room])
+        # A room with the same text and wires keeps its section.
+        elif room not in now.foreign and source == now.plan[1][room] and wires[room] == now.board[1][room]:
+            sections.append(now.board[2][room])
+        else:
+            sections.append(section_with(source, wires[room], plan[0], room))
+    return fresh_moment(plan, now.begun, foreign, (plan[0], wires, tuple(sections)), now.shelf)
 
 
 def touched_rooms(moment):
@@ -42,7 +65,7 @@ class Bench:
         need_program(program)
         need_number(number)
         self._first = (program, number)
-        self._moments = [fresh_moment(program, number, {}, {})]
+        self._moments = [fresh_moment(program, number, {}, board_in(program, {}), {})]
         self._deeds = []
 
     def __len__(self):
@@ -104,7 +127,7 @@ class Bench:
         now = self._moments[-1]
         run = now.run.twin()
         run.go(steps)
-        self._stand(("go", steps), Moment(now.plan, now.begun, now.foreign, run, now.marks, now.shelf))
+        self._stand(("go", steps), Moment(now.plan, now.begun, now.foreign, now.board, run, now.marks, now.shelf))
 
     def write(self, room, address, number):
         """A cell of the section of a room becomes the number."""
@@ -116,7 +139,8 @@ class Bench:
         run = now.run.twin()
         run.works[room].numbers[address] = number
         marks = now.marks if room in now.marks else (*now.marks, room)
-        self._stand(("write", room, address, number), Moment(now.plan, now.begun, now.foreign, run, marks, now.shelf))
+        moment = Moment(now.plan, now.begun, now.foreign, now.board, run, marks, now.shelf)
+        self._stand(("write", room, address, number), moment)
 
     def lay(self, room, section):
         """A section is laid for a room; the machine begins anew."""
@@ -124,8 +148,7 @@ class Bench:
         now = self._moments[-1]
         if not good_section(section) or len(section[1]) != len(now.plan[1][room][4]):
             raise BadSection("the value is no section that can stand for the room")
-        foreign = {**now.foreign, room: section}
-        self._stand(("lay", room, section), fresh_moment(now.plan, now.begun, foreign, now.shelf))
+        self._stand(("lay", room, section), changed_moment(now, now.plan, {**now.foreign, room: section}))
 
     def recompile(self, room):
         """The section laid for a room goes; the machine begins anew."""
@@ -133,7 +156,7 @@ class Bench:
         now = self._moments[-1]
         if room not in now.foreign:
             raise NotLaid(room)
-        self._stand(("recompile", room), fresh_moment(now.plan, now.begun, self._laid_but(room), now.shelf))
+        self._stand(("recompile", room), changed_moment(now, now.plan, self._laid_but(room)))
 
     def rewrite(self, room, source):
         """A room gets another text, and what is laid for it goes; the machine begins anew."""
@@ -142,22 +165,22 @@ class Bench:
         now = self._moments[-1]
         sources = list(now.plan[1])
         sources[room] = source
-        moment = fresh_moment((now.plan[0], tuple(sources)), now.begun, self._laid_but(room), now.shelf)
-        self._stand(("rewrite", room, source), moment)
+        if not are_joined(sources):
+            raise BadProgram("with this room in its place the program is none")
+        self._stand(("rewrite", room, source), changed_moment(now, (now.plan[0], tuple(sources)), self._laid_but(room)))
 
     def begin(self, number):
         """The machine begins anew with this number."""
         need_number(number)
         now = self._moments[-1]
-        self._stand(("begin", number), fresh_moment(now.plan, number, now.foreign, now.shelf))
+        self._stand(("begin", number), fresh_moment(now.plan, number, now.foreign, now.board, now.shelf))
 
     def settle(self):
         """The rooms that are touched or blamed are exchanged for rooms that did no harm, and the row is shown again."""
         now = self._moments[-1]
         row = self.row
-        blamed = [room for room, _, _ in self.blames()]
-        rooms = tuple(sorted(list(touched_rooms(now)) + blamed))
-        moment = fresh_moment(exchanged(now.plan, row, rooms), now.begun, {}, now.shelf)
+        explanation = explanation_of(now.plan, row, touched_rooms(now), BLAME_STEPS)
+        moment = changed_moment(now, explanation.last_program(), {})
         while len(moment.run.shown) < len(row):
             # Each time up to the next crossing: no step more.
             moment.run.advance(MOST_STEPS)
@@ -169,7 +192,7 @@ class Bench:
             raise BadName("the value is no name")
         now = self._moments[-1]
         shelf = {**now.shelf, name: now}
-        self._stand(("keep", name), Moment(now.plan, now.begun, now.foreign, now.run, now.marks, shelf))
+        self._stand(("keep", name), Moment(now.plan, now.begun, now.foreign, now.board, now.run, now.marks, shelf))
 
     def back(self, name):
         """All is as at the moment that is kept by the name, but for what is kept."""
@@ -177,7 +200,8 @@ class Bench:
         if not isinstance(name, str) or name not in now.shelf:
             raise NotKept(name)
         then = now.shelf[name]
-        self._stand(("back", name), Moment(then.plan, then.begun, then.foreign, then.run, then.marks, now.shelf))
+        moment = Moment(then.plan, then.begun, then.foreign, then.board, then.run, then.marks, now.shelf)
+        self._stand(("back", name), moment)
 
     def undo(self):
         """Takes the last deed that stands back."""
@@ -193,7 +217,8 @@ class Bench:
 
     def blames(self, steps=200000):
         """Who did harm, the touched rooms being foreign."""
-        return explained(self.program, self.row, self.touched, steps)
+        need_steps(steps)
+        return explanation_of(self.program, self.row, self.touched, steps).found
 
     def row_at(self, at):
         """The row as it was when the first deeds, so many of them, had been done."""
@@ -203,8 +228,9 @@ class Bench:
 
     def copy(self):
         """An independent bench, equal to this one."""
-        program, number = self._first
-        other = Bench(program, number)
+        # Any program will do: nothing of it stays.
+        other = Bench(LEAST_PROGRAM, 0)
+        other._first = self._first
         other._moments = list(self._moments)
         other._deeds = list(self._deeds)
         return other

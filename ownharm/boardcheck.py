@@ -1,6 +1,6 @@
 """Judges any value: whether it is a section, whether it is a board."""
 
-from ownharm.kinds import MOST_DOORS, MOST_IMPORTS, MOST_OPEN, MOST_ROOMS, all_unlike, is_number, is_tuple, is_whole
+from ownharm.kinds import MOST_DOORS, MOST_IMPORTS, MOST_OPEN, MOST_ROOMS, all_unlike, are_numbers, is_tuple, is_whole
 
 MOST_CELLS = 4000
 
@@ -9,7 +9,7 @@ def good_section(value):
     """Whether the value is a section."""
     if not is_tuple(value, 2, 2) or not is_tuple(value[0], 1, MOST_CELLS) or not is_tuple(value[1], 1, MOST_DOORS):
         return False
-    return all([is_number(one) for one in value[0] + value[1]])
+    return are_numbers(value[0]) and are_numbers(value[1])
 
 
 def are_wires(value, own, doors):

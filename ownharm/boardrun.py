@@ -3,22 +3,32 @@
 from ownharm.sectionsteps import SectionWork
 
 
+def begun_run(board, number):
+    """The run of a good board, begun with a number."""
+    bank = [number] + [0] * 9
+    works = [SectionWork(section, wires, bank) for section, wires in zip(board[2], board[1])]
+    run = BoardRun(board[0], works, bank)
+    run.shown.append(("start", number))
+    run.enter(0, 0)
+    return run
+
+
 class BoardRun:
-    """The run of a board with a number; both must be known to be good.
+    """The run of a board: its sections at work, which share the registers in bank.
 
     shown is the list of the crossings, taken how many steps were done, condition the state, room the one at work,
-    bank the list of the registers, asks the list of the open asks (room, address to go on at).
+    asks the list of the open asks (room, address to go on at).
     """
 
-    def __init__(self, board, number):
-        self.board = board
-        self.bank = [number] + [0] * 9
-        self.works = [SectionWork(section, board[1][room], self.bank) for room, section in enumerate(board[2])]
+    def __init__(self, depth, works, bank):
+        self.depth = depth
+        self.works = works
+        self.bank = bank
         self.asks = []
-        self.shown = [("start", number)]
+        self.shown = []
         self.taken = 0
         self.condition = "running"
-        self.enter(0, 0)
+        self.room = 0
 
     def enter(self, room, door):
         """Goes on in a room at the entry of a door."""
@@ -62,7 +72,7 @@ class BoardRun:
 
     def call(self, asked, door, number):
         """The section at work asks a door along a wire."""
-        if len(self.asks) == self.board[0]:
+        if len(self.asks) == self.depth:
             self.finish("deep", ("deep", self.room, asked, door, number))
             return
         self.asks.append((self.room, self.works[self.room].address))
@@ -81,9 +91,8 @@ class BoardRun:
 
     def twin(self):
         """An independent run at the same moment."""
-        other = BoardRun(self.board, 0)
-        other.bank = list(self.bank)
-        other.works = [work.twin(other.bank) for work in self.works]
+        bank = list(self.bank)
+        other = BoardRun(self.depth, [work.twin(bank) for work in self.works], bank)
         other.asks = list(self.asks)
         other.shown = list(self.shown)
         other.taken = self.taken

@@ -1,10 +1,11 @@
 """The boards of programs: rooms compiled, and foreign sections in the places of others."""
 
 from ownharm.boardcheck import good_section
-from ownharm.compiling import compiled
+from ownharm.compiling import section_with
 from ownharm.errors import BadSections
 from ownharm.kinds import is_whole
-from ownharm.rooms import face_of
+from ownharm.needs import need_program
+from ownharm.rooms import all_wires
 
 
 def is_foreign(program, room, section):
@@ -22,12 +23,22 @@ def need_sections(program, foreign):
         raise BadSections("the dict has a key that is no room or a value that is no section for it")
 
 
+def board_in(program, foreign):
+    """The board of a good program with the good foreign sections of a dict in the places of some rooms; TooLarge."""
+    wires = all_wires(program)
+    sections = []
+    for room, source in enumerate(program[1]):
+        if room in foreign:
+            sections.append(foreign[room])
+        else:
+            sections.append(section_with(source, wires[room], program[0], room))
+    return (program[0], wires, tuple(sections))
+
+
 def board_of(program, foreign=None):
     """The board of a program, with the foreign sections of a dict in the places of some rooms."""
-    depth, wires, _ = face_of(program)
-    known = {}
-    if foreign is not None:
-        need_sections(program, foreign)
-        known = foreign
-    sections = [known[room] if room in known else compiled(program, room) for room in range(len(wires))]
-    return (depth, wires, tuple(sections))
+    need_program(program)
+    if foreign is None:
+        return board_in(program, {})
+    need_sections(program, foreign)
+    return board_in(program, foreign)

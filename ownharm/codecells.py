@@ -1,61 +1,54 @@
-"""The cells of a section while they are laid, with the place of the step that each one does."""
+"""The cells of a section while they are laid, with the places of the steps that they do."""
 
-from ownharm.sections import instruction_number
+# The least numbers of the instructions, their digits b, c, d being 0; these count 100, 10 and 1.
+STOP = 0
+SET = 1000
+GET = 2000
+PUT = 2005
+REST = 3000
+PLUS = 4000
+MINUS = 5000
+LESS = 7000
+JUMP = 8000
+ASK = 9000
+GIVE = 9005
+# For the signs that are instructions of the machine.
+SIGNS = {"rest": REST, "plus": PLUS, "minus": MINUS, "times": 6000, "less": LESS}
+# Registers 1 to 9 become 0, one after another: each is what it is less itself.
+CLEARED = (5111, 5222, 5333, 5444, 5555, 5666, 5777, 5888, 5999)
+
+# The label that tells how many slots a frame has; the other labels are the names of blocks and tell where these begin.
+FRAME_SIZE = ""
 
 
 class CodeCells:
     """Cells laid one behind another; what is not known yet is told by labels and filled in at the end.
 
-    places has an item for each cell: the place of the step that its instruction does, or None.
+    marks are the triples (address, part, at) of the cells that do the steps of places. entries are the addresses of
+    the parts by their names.
     """
 
     def __init__(self):
         self.numbers = []
-        self.places = []
+        self.marks = []
+        self.entries = {}
         self.labels = {}
         self.holes = []
 
-    def put_number(self, number):
-        """Lays a cell that holds a number and does no step."""
-        self.numbers.append(number)
-        self.places.append(None)
-
-    def put(self, told, place=None):
-        """Lays an instruction, which does the step of the place, if one is told."""
-        self.numbers.append(instruction_number(told))
-        self.places.append(place)
-
-    def put_set(self, reg, number, place=None):
-        """Lays a set of a register to a number."""
-        self.put(("set", reg), place)
-        self.put_number(number)
-
     def put_label(self, reg, label):
         """Lays a set of a register to what the label will tell."""
-        self.put(("set", reg))
+        self.numbers.append(SET + 100 * reg)
         self.holes.append((len(self.numbers), label))
-        self.put_number(0)
-
-    def put_leap(self, reg, label, place=None):
-        """Lays a jump to a label, with the help of a register; it is done always, for no such label tells 0."""
-        self.put_label(reg, label)
-        self.put(("jump", reg, reg), place)
-
-    def new_label(self):
-        """A label that is told nothing yet."""
-        label = len(self.labels)
-        self.labels[label] = None
-        return label
-
-    def tell(self, label, number):
-        """The label tells a number."""
-        self.labels[label] = number
-
-    def mark(self, label):
-        """The label tells the address of the cell that is laid next."""
-        self.labels[label] = len(self.numbers)
+        self.numbers.append(0)
 
     def fill(self):
         """Fills in what the labels tell."""
         for at, label in self.holes:
             self.numbers[at] = self.labels[label]
+
+    def places(self):
+        """The list of the places whose steps the cells do, None for those that do none."""
+        found = [None] * len(self.numbers)
+        for address, part, at in self.marks:
+            found[address] = (part, at)
+        return found

@@ -2,13 +2,16 @@
 
 from ownharm.errors import BadPrograms, BadRooms, BadRows, TooLong, Unexplained
 from ownharm.kinds import is_whole
-from ownharm.making import made, need_fitting_row, with_made
-from ownharm.meaning import Run
+from ownharm.making import need_fitting_row, room_showing, small_least, with_made
 from ownharm.needs import need_steps
+from ownharm.programrun import ProgramRun, rooms_alone
+from ownharm.roomalone import RoomAlone
 from ownharm.roomcheck import good_program
-from ownharm.rooms import face_of
-from ownharm.rows import fits, is_row, view_of
-from ownharm.viewtrees import tree_of
+from ownharm.rooms import all_wires, face_in
+from ownharm.rowcheck import good_row
+from ownharm.rows import fits_in, views_in
+from ownharm.treerooms import room_doing
+from ownharm.viewtrees import tree_behind
 
 MOST_PROGRAMS = 6
 
@@ -42,20 +45,63 @@ def shown_beginning(row, shown):
     return many
 
 
-def blame_in(program, row, steps):
-    """The blame to which the run of the program comes, None if it shows the row; TooLong, Unexplained."""
-    run = Run(program, row[0][1])
-    run.reach(len(row), steps)
-    shown = run.row
-    at = shown_beginning(row, shown)
-    if at == len(row):
-        return None
-    if at < len(shown):
-        raise Unexplained(at)
-    if run.fault is None:
-        # It is running: no row goes on behind a last crossing.
-        raise TooLong("so many steps do not show the row")
-    return (run.fault[0], run.fault[1], at)
+class Explanation:
+    """The blames for a row that fits a good program; each of the runs that find them tries at most so many steps.
+
+    found is the list of the blames. rooms are those of the program at last: the foreign ones and those blamed are
+    made from their views of the row, the crossings.
+    """
+
+    def __init__(self, program, row, steps):
+        self.depth = program[0]
+        self.rooms = rooms_alone(program)
+        self.wires = all_wires(program)
+        self.crossings = row
+        self.views = views_in(row)
+        self.most = steps
+        self.found = []
+
+    def explain(self, foreign):
+        """Finds the blames, the rooms foreign having any sections; TooLong, TooMany, Unexplained."""
+        for room in foreign:
+            self.exchange(room)
+        blame = self.next_blame()
+        while blame is not None:
+            self.found.append(blame)
+            self.exchange(blame[0])
+            blame = self.next_blame()
+
+    def exchange(self, room):
+        """The room is exchanged for one made from the tree of its own view; TooMany."""
+        source = room_showing(self.rooms[room].source, self.wires[room], self.views[room])
+        self.rooms[room] = RoomAlone(source, self.wires[room])
+
+    def next_blame(self):
+        """The blame to which the run of the rooms comes, None if it shows the row; TooLong, Unexplained."""
+        for alone in self.rooms:
+            alone.restart()
+        run = ProgramRun(self.depth, self.rooms, self.crossings[0][1])
+        run.go(self.most, len(self.crossings))
+        at = shown_beginning(self.crossings, run.shown)
+        if at == len(self.crossings):
+            return None
+        if at < len(run.shown):
+            raise Unexplained(at)
+        if run.harm is None:
+            # It is running: no row goes on behind a last crossing.
+            raise TooLong("so many steps do not show the row")
+        return (run.harm[0], run.harm[1], at)
+
+    def last_program(self):
+        """The program of the rooms at last."""
+        return (self.depth, tuple([alone.source for alone in self.rooms]))
+
+
+def explanation_of(program, row, foreign, steps):
+    """The explanation of a row that fits a good program; TooLong, TooMany, Unexplained."""
+    explanation = Explanation(program, row, steps)
+    explanation.explain(foreign)
+    return explanation
 
 
 def explained(program, row, foreign=(), steps=200000):
@@ -63,14 +109,7 @@ def explained(program, row, foreign=(), steps=200000):
     need_fitting_row(program, row)
     need_rooms(program, foreign)
     need_steps(steps)
-    rooms = foreign
-    blames = []
-    blame = blame_in(with_made(program, row, rooms), row, steps)
-    while blame is not None:
-        blames.append(blame)
-        rooms = tuple(sorted([*rooms, blame[0]]))
-        blame = blame_in(with_made(program, row, rooms), row, steps)
-    return blames
+    return explanation_of(program, row, foreign, steps).found
 
 
 def is_just(value, told):
@@ -111,7 +150,7 @@ def need_rows(faces, rows):
     """BadRows for what is no list of rows, each one fitting the face with the same index."""
     if not isinstance(rows, (list, tuple)) or len(rows) != len(faces):
         raise BadRows("the value is no list of as many rows as programs")
-    if not all([is_row(row) and fits(row, face) for row, face in zip(rows, faces)]):
+    if not all([good_row(row) and fits_in(row, face) for row, face in zip(rows, faces)]):
         raise BadRows("one of the values is no row that fits its program")
 
 
@@ -127,15 +166,17 @@ def need_alike_rooms(faces, rooms):
 def beside(programs, rows, rooms):
     """The list of the programs in each of which these rooms are made from the tree of their views of all rows."""
     need_programs(programs)
-    faces = [face_of(program) for program in programs]
+    faces = [face_in(program) for program in programs]
     need_rows(faces, rows)
     need_alike_rooms(faces, rooms)
+    views = [views_in(row) for row in rows]
     # All of them ahead of the rooms: views that part are told first.
-    trees = [tree_of([view_of(row, room) for row in rows]) for room in rooms]
+    trees = [tree_behind([told[room] for told in views]) for room in rooms]
+    leasts = [small_least(tree) for tree in trees]
     found = []
     for depth, sources in programs:
         new = list(sources)
-        for room, tree in zip(rooms, trees):
-            new[room] = made((depth, sources), room, tree)
+        for room, least in zip(rooms, leasts):
+            new[room] = room_doing(sources[room], faces[0][1][room], least)
         found.append((depth, tuple(new)))
     return found

@@ -2,7 +2,7 @@
 
 from ownharm.changekinds import ZERO, has_room
 from ownharm.kinds import all_unlike, good_name, is_tuple
-from ownharm.partsteps import local_names
+from ownharm.partshape import local_names
 from ownharm.syntax import children, nodes_in, part_called, with_children
 
 

@@ -7,7 +7,11 @@ MOST_IMPORTS = 8
 MOST_DOORS = 6
 # The act with which a room ends the run.
 ENDS = ("ends",)
-WORDS = ("block", "depth", "door", "else", "function", "give", "if", "rest", "room", "stop", "uses", "while")
+# The words of the texts, which are no names.
+WORDS = {
+    "block": True, "depth": True, "door": True, "else": True, "function": True, "give": True, "if": True, "rest": True,
+    "room": True, "stop": True, "uses": True, "while": True,
+}
 
 
 def is_whole(value, low, high):
@@ -17,7 +21,15 @@ def is_whole(value, low, high):
 
 def is_number(value):
     """Whether the value is a number, as the rooms know them."""
-    return is_whole(value, 0, MODULUS - 1)
+    return isinstance(value, int) and not isinstance(value, bool) and 0 <= value < MODULUS
+
+
+def are_numbers(values):
+    """Whether all items of a list or tuple are numbers."""
+    for one in values:
+        if not isinstance(one, int) or one is True or one is False or not 0 <= one < MODULUS:
+            return False
+    return True
 
 
 def is_tuple(value, least, most):
@@ -25,19 +37,9 @@ def is_tuple(value, least, most):
     return isinstance(value, tuple) and least <= len(value) <= most
 
 
-def is_small_letter(sign):
-    """Whether the one sign is a letter a to z."""
-    return "a" <= sign <= "z"
-
-
-def is_digit(sign):
-    """Whether the one sign is a digit 0 to 9."""
-    return "0" <= sign <= "9"
-
-
 def are_digits(text):
     """Whether the text is made of digits 0 to 9 alone, one at least."""
-    return len(text) > 0 and all([is_digit(sign) for sign in text])
+    return text.isascii() and text.isdigit()
 
 
 def is_written_whole(text):
@@ -49,9 +51,8 @@ def good_name(value):
     """Whether the value is a name."""
     if not isinstance(value, str) or not 1 <= len(value) <= 8 or value in WORDS:
         return False
-    if not is_small_letter(value[0]):
-        return False
-    return all([is_small_letter(sign) or is_digit(sign) for sign in value])
+    # Of the letters and digits of ASCII, a string that is lower and begins with a letter has no great ones.
+    return value.isascii() and value.isalnum() and value.islower() and value[0].isalpha()
 
 
 def all_unlike(things):

@@ -1,11 +1,14 @@
 """The machine that runs boards, whatever numbers stand in their sections."""
 
-from ownharm.boardrun import BoardRun
+from ownharm.boardrun import begun_run
 from ownharm.errors import BadAddress, BadEvents
 from ownharm.kinds import is_number, is_tuple, is_whole
 from ownharm.needs import need_number, need_room_number, need_steps
 from ownharm.sections import need_board
 from ownharm.sectionsteps import SectionWork
+
+# One room, the only cell of which stops.
+LEAST_BOARD = (1, ((),), (((0,), (0,)),))
 
 
 class Machine:
@@ -14,7 +17,7 @@ class Machine:
     def __init__(self, board, number):
         need_board(board)
         need_number(number)
-        self._run = BoardRun(board, number)
+        self._run = begun_run(board, number)
         # No property: the errors store an attribute of this name, too.
         self.at = self._run.place()
 
@@ -63,7 +66,8 @@ class Machine:
 
     def copy(self):
         """An independent machine at the same moment."""
-        other = Machine(self._run.board, 0)
+        # Any board will do: nothing of it stays.
+        other = Machine(LEAST_BOARD, 0)
         other._run = self._run.twin()
         other.at = self.at
         return other
@@ -91,7 +95,7 @@ def handed(board, number, steps):
     need_board(board)
     need_number(number)
     need_steps(steps)
-    run = BoardRun(board, number)
+    run = begun_run(board, number)
     found = [(run.shown[0], tuple(run.bank))]
     left = steps
     while left > 0 and run.condition == "running":

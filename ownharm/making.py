@@ -2,10 +2,10 @@
 
 from ownharm.errors import BadRow, BadTree, TooMany
 from ownharm.needs import need_program, need_room_number
-from ownharm.rooms import face_of, room_wires
-from ownharm.rows import fits, view_of
+from ownharm.rooms import all_wires, face_in, room_wires
+from ownharm.rows import fits_in, need_row, views_in
 from ownharm.treerooms import room_doing
-from ownharm.viewtrees import least_tree, need_tree, tree_of
+from ownharm.viewtrees import least_behind, need_tree, tree_behind
 
 MOST_NODES = 400
 
@@ -13,11 +13,26 @@ MOST_NODES = 400
 def can_do(tree, wires, doors):
     """Whether a room with these wires and so many doors can do what the tree tells."""
     for act, children in tree:
-        if act is not None and act[0] == "calls" and (act[1], act[2]) not in wires:
+        # Of four items are the asks alone, of three the events "in".
+        if act is not None and len(act) == 4 and act[1:3] not in wires:
             return False
-        if any([event[0] == "in" and event[1] >= doors for event, _ in children]):
-            return False
+        for event, _ in children:
+            if len(event) == 3 and event[1] >= doors:
+                return False
     return True
+
+
+def small_least(tree):
+    """The least tree of a good tree; TooMany if no room is made from it."""
+    least = least_behind(tree)
+    if len(least) > MOST_NODES or sum([len(children) for _, children in least]) > MOST_NODES:
+        raise TooMany(MOST_NODES)
+    return least
+
+
+def room_showing(source, wires, view):
+    """The room in the place of another one that is made from the tree of a good view; TooMany."""
+    return room_doing(source, wires, small_least(tree_behind([view])))
 
 
 def made(program, room, tree):
@@ -29,24 +44,24 @@ def made(program, room, tree):
     wires = room_wires(program, source)
     if not can_do(tree, wires, len(source[4])):
         raise BadTree("the tree has an act or an event that the room cannot have")
-    least = least_tree(tree)
-    if len(least) > MOST_NODES or sum([len(children) for _, children in least]) > MOST_NODES:
-        raise TooMany(MOST_NODES)
-    return room_doing(source, wires, least)
+    return room_doing(source, wires, small_least(tree))
 
 
 def need_fitting_row(program, row):
     """BadProgram, BadRow for what is no row that fits the face of the program."""
-    # What is no row at all is told by fits.
-    if not fits(row, face_of(program)):
+    need_program(program)
+    need_row(row)
+    if not fits_in(row, face_in(program)):
         raise BadRow("the row does not fit the program")
 
 
 def with_made(program, row, rooms):
-    """The program in which each of these rooms is made from the tree of its own view of the row."""
+    """The good program in which each of these rooms is made from the tree of its own view of the row, which fits."""
     sources = list(program[1])
+    wires = all_wires(program)
+    views = views_in(row)
     for room in rooms:
-        sources[room] = made(program, room, tree_of([view_of(row, room)]))
+        sources[room] = room_showing(sources[room], wires[room], views[room])
     return (program[0], tuple(sources))
 
 

@@ -5,7 +5,7 @@ from ownharm.errors import BadPlay, TooMany
 from ownharm.kinds import MOST_OPEN
 from ownharm.levels import MOST_ITEMS, MOST_LEVELS, parting
 from ownharm.making import made
-from ownharm.roomalone import RoomAlone, starting_state
+from ownharm.roomalone import RoomAlone
 from ownharm.roomturns import MOST_STEPS, mate_wires
 from ownharm.rowcheck import good_view
 from ownharm.treerooms import SIZE
@@ -28,7 +28,7 @@ def is_play(small, value):
     need_small(small)
     if not good_view(value):
         return False
-    alone = RoomAlone(small, mate_wires(small), starting_state(small))
+    alone = RoomAlone(small, mate_wires(small))
     act = None
     for at, item in enumerate(value):
         if at % 2 == 0:

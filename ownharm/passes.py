@@ -6,7 +6,7 @@ from ownharm.errors import BadChange
 from ownharm.inlines import fresh_names, function_run
 from ownharm.needs import need_room
 from ownharm.partlook import PartLook
-from ownharm.partsteps import local_names
+from ownharm.partshape import local_names
 from ownharm.rooms import need_place
 from ownharm.storing import Storing
 from ownharm.syntax import nodes_in, part_called, parts_of, with_body

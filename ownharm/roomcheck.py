@@ -1,7 +1,7 @@
 """Judges any value: whether it is a room, whether it is a program."""
 
-from ownharm.kinds import (MOST_DOORS, MOST_IMPORTS, MOST_OPEN, MOST_ROOMS, all_unlike, good_name, is_number,
-                           is_tuple, is_whole)
+from ownharm.kinds import (MOST_DOORS, MOST_IMPORTS, MOST_OPEN, MOST_ROOMS, MODULUS, all_unlike, are_numbers,
+                           good_name, is_tuple, is_whole)
 from ownharm.syntax import OPERATORS
 
 MOST_NODES = 200
@@ -13,14 +13,29 @@ MOST_PARAMS = 4
 MOST_SIZE = 10000
 
 
-class BodyCheck:
-    """Judges the bodies of the parts of one room, whatever stands in them."""
+# How many nodes more may come where one has come that cannot stand: whatever comes behind it, it stays below 0.
+FAILED = -1
 
-    def __init__(self, imports, blocks):
-        self.imports = imports
-        self.blocks = blocks
+
+def is_known_name(value, names):
+    """Whether the value is a name; the dict is of those that have been found to be names, and takes it."""
+    if not isinstance(value, str):
+        return False
+    if value not in names:
+        if not good_name(value):
+            return False
+        names[value] = True
+    return True
+
+
+class BodyCheck:
+    """Judges the bodies of the parts of one room, whatever stands in them; names is a dict as is_known_name has it."""
+
+    def __init__(self, imports, blocks, names):
+        self.imports = {pair: True for pair in imports}
+        self.blocks = {block[0]: True for block in blocks}
+        self.names = names
         self.params = {}
-        self.many = 0
 
     def allow(self, function):
         """From now on this function may be run, with as many arguments as it has params."""
@@ -28,145 +43,165 @@ class BodyCheck:
 
     def is_part_body(self, body):
         """Whether the value is the body of a part."""
-        self.many = 0
-        return self.is_body(body, 1)
+        return self.left_behind(body, MOST_NODES, 1) >= 0
 
-    def is_body(self, body, depth):
-        """Whether the value is a body with statements at this depth."""
-        if not isinstance(body, tuple):
-            return False
-        for statement in body:
-            if not self.is_statement(statement, depth):
-                return False
-        return True
+    def left_behind(self, body, left, depth):
+        """How many nodes more may come behind a body with statements at this depth, so many ahead of it; below 0 if
+        they are too many, or the value is no body."""
+        if not isinstance(body, tuple) or (depth > MOST_DEPTH and body):
+            return FAILED
+        names = self.names
+        inner = depth + 1
+        for value in body:
+            many = len(value) if isinstance(value, tuple) else 0
+            # The bounds also end the way through values that are too deep or too long.
+            if many == 0 or left <= 0:
+                return FAILED
+            word = value[0]
+            if word == "let" and many == 3:
+                if not isinstance(value[1], str) or (value[1] not in names and not is_known_name(value[1], names)):
+                    return FAILED
+                left = self.left_value(value[2], left - 1, inner)
+            elif word == "store" and many == 4 and self.has_block(value[1]):
+                left = self.left_value(value[3], self.left_value(value[2], left - 1, inner), inner)
+            elif word == "give" and many == 2:
+                left = self.left_value(value[1], left - 1, inner)
+            elif word == "if" and many == 4:
+                left = self.left_value(value[1], left - 1, inner)
+                left = self.left_behind(value[3], self.left_behind(value[2], left, inner), inner)
+            elif word == "while" and many == 3:
+                left = self.left_behind(value[2], self.left_value(value[1], left - 1, inner), inner)
+            elif word == "stop" and many == 1:
+                left -= 1
+            else:
+                return FAILED
+        return left
 
-    def is_node(self, value, depth):
-        """Counts one node more; whether it may be there and is a tuple with something in it."""
-        self.many += 1
-        # The bounds come first: they also end the way through values that are too deep or too long.
-        if self.many > MOST_NODES or depth > MOST_DEPTH:
-            return False
-        return is_tuple(value, 1, 4)
-
-    def is_statement(self, value, depth):
-        """Whether the value is a statement at this depth."""
-        if not self.is_node(value, depth):
-            return False
-        word = value[0]
-        if word == "let":
-            return len(value) == 3 and good_name(value[1]) and self.is_value(value[2], depth + 1)
-        if word == "store":
-            return len(value) == 4 and self.has_block(value[1]) and self.are_values(value[2:], depth + 1)
-        if word == "if":
-            return (len(value) == 4 and self.is_value(value[1], depth + 1)
-                    and self.is_body(value[2], depth + 1) and self.is_body(value[3], depth + 1))
-        if word == "while":
-            return len(value) == 3 and self.is_value(value[1], depth + 1) and self.is_body(value[2], depth + 1)
-        if word == "give":
-            return len(value) == 2 and self.is_value(value[1], depth + 1)
-        return word == "stop" and len(value) == 1
-
-    def is_value(self, value, depth):
-        """Whether the value is an expression at this depth."""
-        if not self.is_node(value, depth):
-            return False
-        word = value[0]
-        if word == "number":
-            return len(value) == 2 and is_number(value[1])
-        if word == "local":
-            return len(value) == 2 and good_name(value[1])
-        if word == "cell":
-            return len(value) == 3 and self.has_block(value[1]) and self.is_value(value[2], depth + 1)
-        if word == "run":
-            return len(value) == 3 and self.are_arguments(value[1], value[2], depth + 1)
-        if word == "ask":
-            return len(value) == 4 and self.has_import(value[1], value[2]) and self.is_value(value[3], depth + 1)
-        return word in OPERATORS and len(value) == 3 and self.are_values(value[1:], depth + 1)
-
-    def are_values(self, things, depth):
-        """Whether all the things are expressions at this depth."""
-        for value in things:
-            if not self.is_value(value, depth):
-                return False
-        return True
-
-    def are_arguments(self, function, arguments, depth):
-        """Whether the function may be run with these arguments."""
-        if not isinstance(function, str) or function not in self.params:
-            return False
-        many = self.params[function]
-        return is_tuple(arguments, many, many) and self.are_values(arguments, depth)
+    def left_value(self, value, left, depth):
+        """The same for an expression at this depth."""
+        many = len(value) if isinstance(value, tuple) else 0
+        if depth > MOST_DEPTH:
+            return FAILED
+        if many == 2:
+            word, told = value
+            if word == "number":
+                if isinstance(told, int) and told is not True and told is not False and 0 <= told < MODULUS:
+                    return left - 1
+            elif word == "local" and isinstance(told, str) and (told in self.names or is_known_name(told, self.names)):
+                return left - 1
+        elif left <= 0:
+            return FAILED
+        elif many == 3:
+            word, one, other = value
+            if word in OPERATORS:
+                return self.left_value(other, self.left_value(one, left - 1, depth + 1), depth + 1)
+            if word == "cell" and self.has_block(one):
+                return self.left_value(other, left - 1, depth + 1)
+            if word == "run" and self.has_params(one, other):
+                left -= 1
+                for argument in other:
+                    left = self.left_value(argument, left, depth + 1)
+                return left
+        elif many == 4 and value[0] == "ask" and self.has_import(value[1], value[2]):
+            return self.left_value(value[3], left - 1, depth + 1)
+        return FAILED
 
     def has_block(self, value):
         """Whether the value names a block of the room."""
-        return value in self.blocks
+        return isinstance(value, str) and value in self.blocks
+
+    def has_params(self, function, arguments):
+        """Whether the function may be run, and there are as many arguments, whatever they are."""
+        if not isinstance(function, str) or function not in self.params:
+            return False
+        return isinstance(arguments, tuple) and len(arguments) == self.params[function]
 
     def has_import(self, room, door):
         """Whether the room imports this door."""
-        return (room, door) in self.imports
+        return isinstance(room, str) and isinstance(door, str) and (room, door) in self.imports
 
 
-def are_imports(value, own):
+def are_imports(value, own, names):
     """Whether the value is the tuple of the imports of the room with this name."""
     if not is_tuple(value, 0, MOST_IMPORTS):
         return False
     for pair in value:
-        if not is_tuple(pair, 2, 2) or not good_name(pair[0]) or not good_name(pair[1]) or pair[0] == own:
+        if not is_tuple(pair, 2, 2) or pair[0] == own:
+            return False
+        if not is_known_name(pair[0], names) or not is_known_name(pair[1], names):
             return False
     return all_unlike(value)
 
 
-def is_block(value):
+def is_block(value, names):
     """Whether the value is a block."""
-    if not is_tuple(value, 2, 2) or not good_name(value[0]) or not is_tuple(value[1], 1, MOST_VALUES):
+    if not is_tuple(value, 2, 2) or not is_known_name(value[0], names) or not is_tuple(value[1], 1, MOST_VALUES):
         return False
-    return all([one is None or is_number(one) for one in value[1]])
+    return are_numbers([one for one in value[1] if one is not None])
 
 
-def are_blocks(value):
+def are_blocks(value, names):
     """Whether the value is the tuple of the blocks of a room."""
-    if not is_tuple(value, 0, MOST_BLOCKS) or not all([is_block(block) for block in value]):
+    if not is_tuple(value, 0, MOST_BLOCKS):
         return False
+    for block in value:
+        if not is_block(block, names):
+            return False
     return all_unlike([block[0] for block in value])
 
 
-def is_function_head(value):
+def is_function_head(value, names):
     """Whether the value is a function but for its body, which is not looked at."""
-    if not is_tuple(value, 3, 3) or not good_name(value[0]) or not is_tuple(value[1], 0, MOST_PARAMS):
+    if not is_tuple(value, 3, 3) or not is_known_name(value[0], names) or not is_tuple(value[1], 0, MOST_PARAMS):
         return False
-    return all([good_name(param) for param in value[1]]) and all_unlike(value[1])
+    for param in value[1]:
+        if not is_known_name(param, names):
+            return False
+    return all_unlike(value[1])
 
 
-def is_door_head(value):
+def is_door_head(value, names):
     """Whether the value is a door but for its body, which is not looked at."""
-    return is_tuple(value, 4, 4) and good_name(value[0]) and good_name(value[1]) and is_whole(value[2], 1, MOST_SIZE)
+    if not is_tuple(value, 4, 4) or not is_known_name(value[0], names) or not is_known_name(value[1], names):
+        return False
+    return is_whole(value[2], 1, MOST_SIZE)
 
 
-def are_heads(functions, doors):
+def are_heads(functions, doors, names):
     """Whether the values are the functions and the doors of a room but for their bodies."""
     if not is_tuple(functions, 0, MOST_FUNCTIONS) or not is_tuple(doors, 1, MOST_DOORS):
         return False
-    if not all([is_function_head(function) for function in functions]):
-        return False
-    if not all([is_door_head(door) for door in doors]):
-        return False
+    for function in functions:
+        if not is_function_head(function, names):
+            return False
+    for door in doors:
+        if not is_door_head(door, names):
+            return False
     return all_unlike([part[0] for part in functions + doors])
 
 
-def good_room(value):
-    """Whether the value is a room."""
-    if not is_tuple(value, 5, 5) or not good_name(value[0]):
+def is_room_with(value, names):
+    """Whether the value is a room; the dict is one as is_known_name has it."""
+    if not is_tuple(value, 5, 5) or not is_known_name(value[0], names):
         return False
     name, imports, blocks, functions, doors = value
-    if not are_imports(imports, name) or not are_blocks(blocks) or not are_heads(functions, doors):
+    if not are_imports(imports, name, names) or not are_blocks(blocks, names) or not are_heads(functions, doors, names):
         return False
-    check = BodyCheck(imports, [block[0] for block in blocks])
+    check = BodyCheck(imports, blocks, names)
     for function in functions:
         if not check.is_part_body(function[2]):
             return False
         # Only now: a function runs those ahead of it, not itself.
         check.allow(function)
-    return all([check.is_part_body(door[3]) for door in doors])
+    for door in doors:
+        if not check.is_part_body(door[3]):
+            return False
+    return True
+
+
+def good_room(value):
+    """Whether the value is a room."""
+    return is_room_with(value, {})
 
 
 def doors_of(rooms):
@@ -174,12 +209,20 @@ def doors_of(rooms):
     return {(room[0], door[0]): True for room in rooms for door in room[4]}
 
 
+def are_joined(rooms):
+    """Whether good rooms have unlike names and import doors of one another alone."""
+    if not all_unlike([room[0] for room in rooms]):
+        return False
+    doors = doors_of(rooms)
+    return all([pair in doors for room in rooms for pair in room[1]])
+
+
 def good_program(value):
     """Whether the value is a program."""
     if not is_tuple(value, 2, 2) or not is_whole(value[0], 1, MOST_OPEN) or not is_tuple(value[1], 1, MOST_ROOMS):
         return False
-    rooms = value[1]
-    if not all([good_room(room) for room in rooms]) or not all_unlike([room[0] for room in rooms]):
-        return False
-    doors = doors_of(rooms)
-    return all([pair in doors for room in rooms for pair in room[1]])
+    names = {}
+    for room in value[1]:
+        if not is_room_with(room, names):
+            return False
+    return are_joined(value[1])

@@ -1,6 +1,6 @@
 """Lays the section of a room: a cell for the place of the present frame, the code, the frames, the blocks."""
 
-from ownharm.codecells import CodeCells
+from ownharm.codecells import FRAME_SIZE, CodeCells
 from ownharm.kinds import MODULUS
 from ownharm.partlayer import CURRENT, PartLayer
 
@@ -24,18 +24,16 @@ def laid_parts(code, source, wires):
 def laid_room(source, wires, depth):
     """The cells of the section of a room with these wires, in a program of this depth."""
     code = CodeCells()
-    code.put_number(0)
+    code.numbers.append(0)
     size = laid_parts(code, source, wires)
-    code.tell("size", size)
+    code.labels[FRAME_SIZE] = size
     # The entry of a door goes one frame on, the first one too.
     code.numbers[CURRENT] = (len(code.numbers) - size) % MODULUS
     # No room asks itself: of two runnings of its doors that are open at once one asks and is asked again behind it.
     frames = depth // 2 + 1
-    for _ in range(frames * size):
-        code.put_number(0)
-    for block in source[2]:
-        code.mark(("block", block[0]))
-        for value in block[1]:
-            code.put_number(0 if value is None else value)
+    code.numbers.extend([0] * (frames * size))
+    for name, values in source[2]:
+        code.labels[name] = len(code.numbers)
+        code.numbers.extend([0 if value is None else value for value in values])
     code.fill()
     return code

@@ -80,20 +80,36 @@ def depth_of(source, place):
     return depths_in(body, 1)[place[1]]
 
 
+def door_numbers(program):
+    """The dict from the pairs of names (room, door) of a program to the pairs of their numbers."""
+    numbers = {}
+    for room, source in enumerate(program[1]):
+        for door, told in enumerate(source[4]):
+            numbers[(source[0], told[0])] = (room, door)
+    return numbers
+
+
 def room_wires(program, source):
     """The tuple of the pairs (room, door) of a room's imports, by their numbers."""
-    numbers = {}
-    for room, other in enumerate(program[1]):
-        for door, told in enumerate(other[4]):
-            numbers[(other[0], told[0])] = (room, door)
+    numbers = door_numbers(program)
     return tuple([numbers[pair] for pair in source[1]])
+
+
+def all_wires(program):
+    """The tuple of the wires of all rooms."""
+    numbers = door_numbers(program)
+    return tuple([tuple([numbers[pair] for pair in source[1]]) for source in program[1]])
+
+
+def face_in(program):
+    """The face of a good program."""
+    return (program[0], all_wires(program), tuple([len(source[4]) for source in program[1]]))
 
 
 def face_of(program):
     """The face of a program: its depth, the wires of the rooms, the counts of their doors."""
     need_program(program)
-    wires = tuple([room_wires(program, source) for source in program[1]])
-    return (program[0], wires, tuple([len(source[4]) for source in program[1]]))
+    return face_in(program)
 
 
 def number_of(program, name):

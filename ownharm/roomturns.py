@@ -41,7 +41,7 @@ class RoomTurns:
 
     def __init__(self, small):
         self.small = small
-        self.alone = RoomAlone(small, mate_wires(small), starting_state(small))
+        self.alone = RoomAlone(small, mate_wires(small))
         self.memories = Ledger(MOST_CONTENTS)
         self.runnings = Ledger(None)
         self.known = {}

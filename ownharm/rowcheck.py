@@ -1,7 +1,7 @@
 """Judges any value: whether it is a row, a face, a view."""
 
 from ownharm.boardcheck import are_wires
-from ownharm.kinds import ENDS, MOST_DOORS, MOST_OPEN, MOST_ROOMS, is_number, is_tuple, is_whole
+from ownharm.kinds import ENDS, MODULUS, MOST_DOORS, MOST_OPEN, MOST_ROOMS, is_tuple, is_whole
 
 # What may stand in a crossing, as tuples (low, high, other): a whole from low to high that is not the other one.
 NUMBER = (0, 9999, None)
@@ -40,7 +40,10 @@ class RowWalk:
         told = self.fields(crossing[0])
         if told is None or len(crossing) != 1 + len(told):
             return False
-        return all([is_field(crossing[1 + at], field) for at, field in enumerate(told)])
+        for item, field in zip(crossing[1:], told):
+            if not is_field(item, field):
+                return False
+        return True
 
     def take(self, crossing):
         """A crossing that can follow comes."""
@@ -60,7 +63,7 @@ class RowWalk:
 def is_field(value, field):
     """Whether any value is what the field tells."""
     low, high, other = field
-    return is_whole(value, low, high) and value != other
+    return isinstance(value, int) and not isinstance(value, bool) and low <= value <= high and value != other
 
 
 def good_row(value):
@@ -95,37 +98,68 @@ def good_face(value):
     return all([are_wires(one, room, doors) for room, one in enumerate(wires)])
 
 
+def are_events(values):
+    """Whether all items of a list or tuple are events that may stand in a view."""
+    for value in values:
+        many = len(value) if isinstance(value, tuple) else 0
+        if many == 2:
+            word, number = value
+            if word != "got":
+                return False
+        elif many == 3:
+            word, door, number = value
+            if word != "in" or not isinstance(door, int) or door is True or door is False or not 0 <= door < MOST_DOORS:
+                return False
+        else:
+            return False
+        if not isinstance(number, int) or number is True or number is False or not 0 <= number < MODULUS:
+            return False
+    return True
+
+
+def are_acts(values):
+    """Whether all items of a list or tuple are acts that may stand in a view."""
+    for value in values:
+        many = len(value) if isinstance(value, tuple) else 0
+        if many == 2:
+            word, number = value
+            if word != "gives":
+                return False
+        elif many == 4:
+            word, room, door, number = value
+            if word != "calls" or not isinstance(room, int) or room is True or room is False:
+                return False
+            if not isinstance(door, int) or door is True or door is False:
+                return False
+            if not 0 <= room < MOST_ROOMS or not 0 <= door < MOST_DOORS:
+                return False
+        elif many == 1 and value[0] == "ends":
+            continue
+        else:
+            return False
+        if not isinstance(number, int) or number is True or number is False or not 0 <= number < MODULUS:
+            return False
+    return True
+
+
 def good_event(value):
     """Whether the value is an event that may stand in a view."""
-    if is_tuple(value, 3, 3):
-        return value[0] == "in" and is_field(value[1], DOOR) and is_number(value[2])
-    return is_tuple(value, 2, 2) and value[0] == "got" and is_number(value[1])
-
-
-def good_act(value):
-    """Whether the value is an act that may stand in a view."""
-    if is_tuple(value, 4, 4):
-        to, door, number = value[1:]
-        return value[0] == "calls" and is_whole(to, 0, MOST_ROOMS - 1) and is_field(door, DOOR) and is_number(number)
-    if is_tuple(value, 2, 2):
-        return value[0] == "gives" and is_number(value[1])
-    return is_tuple(value, 1, 1) and value[0] == "ends"
+    return are_events([value])
 
 
 def good_view(value):
     """Whether the value is a view."""
-    if not isinstance(value, (list, tuple)):
+    if not isinstance(value, (list, tuple)) or not are_events(value[::2]) or not are_acts(value[1::2]):
+        return False
+    # Behind the end of the run there is nothing.
+    if ENDS in value[:-1]:
         return False
     waiting = 0
-    for at, item in enumerate(value):
-        if at > 0 and value[at - 1] == ENDS:
-            return False
-        if not (good_event(item) if at % 2 == 0 else good_act(item)):
-            return False
+    for item in value:
         if item[0] == "calls":
             waiting += 1
         elif item[0] == "got":
             waiting -= 1
-        if waiting < 0:
-            return False
+            if waiting < 0:
+                return False
     return True

@@ -1,9 +1,9 @@
 """Rows of crossings, the faces that they fit, and the views of the rooms in them."""
 
 from ownharm.errors import BadFace, BadOrder, BadRow, BadViews, Unfit
-from ownharm.kinds import MOST_ROOMS, all_unlike, is_whole
+from ownharm.kinds import ENDS, MOST_ROOMS, all_unlike, is_whole
 from ownharm.needs import need_room_number
-from ownharm.rowcheck import RowWalk, good_face, good_row, good_view, walked
+from ownharm.rowcheck import good_face, good_row, good_view, walked
 
 
 def is_row(value):
@@ -46,48 +46,58 @@ def open_of(row):
     return walked(row).asks
 
 
+def fits_in(row, face):
+    """Whether a good row is one of rooms with this good face."""
+    depth, wires, _ = face
+    many = 0
+    for crossing in row:
+        word = crossing[0]
+        if word == "call" or word == "deep":
+            # Whoever is in control is a room of the face, for the wires lead to such rooms alone.
+            if (crossing[2], crossing[3]) not in wires[crossing[1]] or (many == depth) != (word == "deep"):
+                return False
+            many += 1
+        elif word == "back":
+            many -= 1
+    return True
+
+
 def fits(row, face):
     """Whether the row is one of rooms with this face."""
     need_row(row)
     need_face(face)
-    depth, wires, _ = face
-    walk = RowWalk()
+    return fits_in(row, face)
+
+
+def views_in(row):
+    """The list of the views of all rooms in a good row, for as many rooms as there may be."""
+    views = [[] for _ in range(MOST_ROOMS)]
     for crossing in row:
-        if crossing[0] == "call" or crossing[0] == "deep":
-            # Whoever is in control is a room of the face, for the wires lead to such rooms alone.
-            if (crossing[2], crossing[3]) not in wires[crossing[1]]:
-                return False
-            if (len(walk.asks) == depth) != (crossing[0] == "deep"):
-                return False
-        walk.take(crossing)
-    return True
-
-
-def shown_by(crossing, room):
-    """The list of what a crossing shows of a room: no item, or one."""
-    word = crossing[0]
-    if word == "start" and room == 0:
-        return [("in", 0, crossing[1])]
-    if word == "done" and room == 0:
-        return [("gives", crossing[1])]
-    if word == "start" or word == "done":
-        return []
-    if crossing[1] == room:
-        if word == "back":
-            return [("gives", crossing[3])]
-        return [("ends",)] if word == "end" else [("calls", *crossing[2:])]
-    if word == "call" and crossing[2] == room:
-        return [("in", *crossing[3:])]
-    if word == "back" and crossing[2] == room:
-        return [("got", crossing[3])]
-    return []
+        word = crossing[0]
+        if word == "call":
+            _, asker, asked, door, number = crossing
+            views[asker].append(("calls", asked, door, number))
+            views[asked].append(("in", door, number))
+        elif word == "back":
+            _, giver, asker, number = crossing
+            views[giver].append(("gives", number))
+            views[asker].append(("got", number))
+        elif word == "start":
+            views[0].append(("in", 0, crossing[1]))
+        elif word == "done":
+            views[0].append(("gives", crossing[1]))
+        elif word == "deep":
+            views[crossing[1]].append(("calls", *crossing[2:]))
+        else:
+            views[crossing[1]].append(ENDS)
+    return views
 
 
 def view_of(row, room):
     """The view of a room in a row."""
     need_row(row)
     need_room_number(room, MOST_ROOMS)
-    return [item for crossing in row for item in shown_by(crossing, room)]
+    return views_in(row)[room]
 
 
 class Joining:

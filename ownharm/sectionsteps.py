@@ -1,4 +1,4 @@
-"""One step of each instruction: what it does to a section at work; the act that it comes to, or None."""
+"""Sections at work by themselves: what each instruction does there, and the acts that they come to."""
 
 from ownharm.kinds import ENDS, MODULUS
 
@@ -8,38 +8,10 @@ def do_stop(work, b, c, d):
     return ENDS
 
 
-def do_set(work, b, c, d):
-    """A register becomes the next cell, if there is one; it goes on behind that one."""
-    address = work.address
-    if address >= len(work.numbers):
-        return ENDS
-    work.bank[b] = work.numbers[address]
-    work.address = address + 1
-    return None
-
-
-def do_get_or_put(work, b, c, d):
-    """A register becomes a cell, or a cell becomes what a register is, if there is this cell."""
-    address = work.bank[c]
-    if address >= len(work.numbers):
-        return ENDS
-    if d < 5:
-        work.bank[b] = work.numbers[address]
-    else:
-        work.numbers[address] = work.bank[b]
-    return None
-
-
 def do_rest(work, b, c, d):
     """The remainder of two registers; a rest by 0 is 0 here."""
     bank = work.bank
     bank[b] = 0 if bank[d] == 0 else bank[c] % bank[d]
-
-
-def do_plus(work, b, c, d):
-    """The sum of two registers."""
-    bank = work.bank
-    bank[b] = (bank[c] + bank[d]) % MODULUS
 
 
 def do_minus(work, b, c, d):
@@ -60,12 +32,6 @@ def do_less(work, b, c, d):
     bank[b] = 1 if bank[c] < bank[d] else 0
 
 
-def do_jump(work, b, c, d):
-    """Goes on at the address that a register tells, if another one is not 0."""
-    if work.bank[b] != 0:
-        work.address = work.bank[c]
-
-
 def do_ask_or_give(work, b, c, d):
     """An ask along a wire, the end of the run if there is no such wire, or a give."""
     bank = work.bank
@@ -76,8 +42,8 @@ def do_ask_or_give(work, b, c, d):
     return ENDS
 
 
-# By the first digit of the number.
-ACTIONS = (do_stop, do_set, do_get_or_put, do_rest, do_plus, do_minus, do_times, do_less, do_jump, do_ask_or_give)
+# By the first digit of the number, for the instructions that SectionWork does not do itself.
+ACTIONS = {3: do_rest, 5: do_minus, 6: do_times, 7: do_less, 9: do_ask_or_give}
 
 
 class SectionWork:
@@ -99,15 +65,40 @@ class SectionWork:
     def advance(self, steps):
         """Does so many steps, up to an act: the pair of how many were done and the act, or None."""
         numbers = self.numbers
-        for done in range(steps):
-            address = self.address
-            if address >= len(numbers):
-                return (done + 1, ENDS)
+        bank = self.bank
+        address = self.address
+        size = len(numbers)
+        for done in range(1, steps + 1):
+            if address >= size:
+                return (done, ENDS)
             number = numbers[address]
-            # Ahead of the action, which may say otherwise.
-            self.address = address + 1
-            action = ACTIONS[number // 1000]
-            act = action(self, number // 100 % 10, number // 10 % 10, number % 10)
-            if act is not None:
-                return (done + 1, act)
+            address += 1
+            word = number // 1000
+            b = number // 100 % 10
+            if word == 1:
+                # A set needs one cell more.
+                if address >= size:
+                    return (done, ENDS)
+                bank[b] = numbers[address]
+                address += 1
+            elif word == 4:
+                bank[b] = (bank[number // 10 % 10] + bank[number % 10]) % MODULUS
+            elif word == 2:
+                spot = bank[number // 10 % 10]
+                if spot >= size:
+                    return (done, ENDS)
+                if number % 10 < 5:
+                    bank[b] = numbers[spot]
+                else:
+                    numbers[spot] = bank[b]
+            elif word == 8:
+                if bank[b] != 0:
+                    address = bank[number // 10 % 10]
+            else:
+                action = ACTIONS.get(word, do_stop)
+                act = action(self, b, number // 10 % 10, number % 10)
+                if act is not None:
+                    self.address = address
+                    return (done, act)
+        self.address = address
         return (steps, None)

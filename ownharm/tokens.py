@@ -1,7 +1,7 @@
 """Lines of a text as rows of tokens, which are taken one behind another."""
 
 from ownharm.errors import BadText
-from ownharm.kinds import good_name, is_digit, is_small_letter, is_written_whole
+from ownharm.kinds import good_name, is_written_whole
 
 # The end of a line is a token, too; no other one is an empty string.
 END = ""
@@ -9,7 +9,7 @@ END = ""
 
 def is_word_sign(sign):
     """Whether the one sign is a part of words."""
-    return is_small_letter(sign) or "A" <= sign <= "Z" or is_digit(sign) or sign == "_"
+    return sign == "_" or (sign.isascii() and sign.isalnum())
 
 
 def tokens_in(line):

@@ -58,31 +58,24 @@ def turns(imports, inner):
     return (("while", worth(1), turn),)
 
 
-def kind_of(act, wires):
-    """The kind of an act."""
-    return GIVES if act[0] == "gives" else 1 + wires.index((act[1], act[2]))
-
-
-def event_code(event):
-    """What tells an event apart, beside its number."""
-    return GOT if event[0] == "got" else 1 + event[1]
-
-
 def blocks_of(tree, wires):
     """The blocks in which a least tree stands; the nodes with children come first there, the root ahead of all."""
-    order = [at for at, node in enumerate(tree) if node[1]] + [at for at, node in enumerate(tree) if not node[1]]
+    parents = [at for at, node in enumerate(tree) if node[1]]
+    order = parents + [at for at, node in enumerate(tree) if not node[1]]
     places = {node: at for at, node in enumerate(order)}
-    children = [child for node in order for child in tree[node][1]]
+    children = []
     first = [0]
-    for node in order:
-        if tree[node][1]:
-            first.append(first[-1] + len(tree[node][1]))
+    for node in parents:
+        children.extend(tree[node][1])
+        first.append(len(children))
+    asks = {pair: at + 1 for at, pair in enumerate(wires)}
+    acts = [tree[node][0] for node in order[1:]]
     # The root has no act: what stands there keeps the node at which the room is, first the root itself.
-    kinds = [0] + [kind_of(tree[node][0], wires) for node in order[1:]]
-    numbers = [0] + [tree[node][0][-1] for node in order[1:]]
+    kinds = [0] + [GIVES if len(act) == 2 else asks[act[1:3]] for act in acts]
+    numbers = [0] + [act[-1] for act in acts]
     told = (
         ("first", first), ("kind", kinds), ("out", numbers),
-        ("event", [event_code(event) for event, _ in children]),
+        ("event", [GOT if len(event) == 2 else 1 + event[1] for event, _ in children]),
         ("value", [event[-1] for event, _ in children]),
         ("to", [places[index] for _, index in children]),
     )

@@ -1,37 +1,50 @@
 """Trees of views: what a room does behind everything that came in to it."""
 
 from ownharm.errors import BadEvents, BadTree, BadViews, Parted
-from ownharm.kinds import ENDS, is_tuple, is_whole
-from ownharm.rowcheck import good_act, good_event, good_view
+from ownharm.kinds import ENDS
+from ownharm.rowcheck import are_acts, are_events, good_event, good_view
 
 MOST_VIEWS = 200
 
 
-def is_child(value, many):
-    """Whether any value is a child in a tree with so many nodes."""
-    return is_tuple(value, 2, 2) and good_event(value[0]) and is_whole(value[1], 1, many - 1)
+def nodes_told(value):
+    """The lists of the acts, of the events and of the children that some nodes tell, whatever the first two are, as a
+    triple; None if one of the values is no node, or one of the children is none of them."""
+    many = len(value)
+    acts = []
+    events = []
+    indices = []
+    for node in value:
+        if not isinstance(node, tuple) or len(node) != 2:
+            return None
+        act, children = node
+        if not isinstance(children, tuple):
+            return None
+        if act is not None:
+            acts.append(act)
+        for child in children:
+            if not isinstance(child, tuple) or len(child) != 2:
+                return None
+            event, index = child
+            # Nothing leads to the root, nor does False.
+            if not isinstance(index, int) or index is True or not 0 < index < many:
+                return None
+            events.append(event)
+            indices.append(index)
+    return (acts, events, indices)
 
 
-def is_tree_node(value, many):
-    """Whether any value is a node of a tree with so many nodes, whichever of them."""
-    if not is_tuple(value, 2, 2) or not isinstance(value[1], tuple):
-        return False
-    if value[0] is not None and not good_act(value[0]):
-        return False
-    if not all([is_child(child, many) for child in value[1]]):
-        return False
-    events = [event for event, _ in value[1]]
-    return all([events[at] < events[at + 1] for at in range(len(events) - 1)])
+def are_ascending(children):
+    """Whether the good events of children ascend."""
+    for (one, _), (other, _) in zip(children, children[1:]):
+        if not one < other:
+            return False
+    return True
 
 
 def is_root(node):
     """Whether a node can be the root."""
     return node[0] is None and all([event[0] == "in" for event, _ in node[1]])
-
-
-def nothing_follows(node):
-    """Whether a node other than the root tells that nothing comes behind it."""
-    return node[0] is None or node[0] == ENDS
 
 
 def parents_first(tree):
@@ -44,24 +57,38 @@ def parents_first(tree):
         for _, index in children:
             waiting[index] += 1
     found = [0]
+    # What is found grows while it is gone through.
     at = 0
     while at < len(found):
         for _, index in tree[found[at]][1]:
-            waiting[index] -= 1
-            if waiting[index] == 0:
+            if waiting[index] == 1:
                 found.append(index)
+            waiting[index] -= 1
         at += 1
     return found
+
+
+def goes_forward(tree):
+    """Whether each child stands behind its parents: then there is no way back."""
+    return not [index for at, (_, children) in enumerate(tree) for _, index in children if index <= at]
 
 
 def is_tree(value):
     """Whether any value is a tree."""
     if not isinstance(value, tuple) or len(value) == 0:
         return False
-    if not all([is_tree_node(node, len(value)) for node in value]) or not is_root(value[0]):
+    told = nodes_told(value)
+    if told is None or not are_acts(told[0]) or not are_events(told[1]) or not is_root(value[0]):
         return False
-    if any([nothing_follows(node) and len(node[1]) > 0 for node in value[1:]]):
-        return False
+    for _, children in value:
+        if len(children) > 1 and not are_ascending(children):
+            return False
+    for act, children in value[1:]:
+        # Of one item is the act that ends the run alone.
+        if children and (act is None or len(act) == 1):
+            return False
+    if goes_forward(value):
+        return len(set(told[2])) == len(value) - 1
     return len(parents_first(value)) == len(value)
 
 
@@ -114,14 +141,19 @@ class TreeGrowth:
         return tuple([(act, tuple(sorted(list(way.items())))) for act, way in zip(self.acts, self.ways)])
 
 
-def tree_of(views):
-    """The tree of just these views, each node a child once."""
-    if not isinstance(views, (list, tuple)) or len(views) > MOST_VIEWS or not all([good_view(view) for view in views]):
-        raise BadViews("the value is no list of 0 to 200 views")
+def tree_behind(views):
+    """The tree of just these good views; Parted."""
     growth = TreeGrowth()
     for index, view in enumerate(views):
         growth.grow(index, view)
     return growth.grown()
+
+
+def tree_of(views):
+    """The tree of just these views, each node a child once."""
+    if not isinstance(views, (list, tuple)) or len(views) > MOST_VIEWS or not all([good_view(view) for view in views]):
+        raise BadViews("the value is no list of 0 to 200 views")
+    return tree_behind(views)
 
 
 def need_events(events):
@@ -146,6 +178,12 @@ def act_behind(tree, events):
     return ENDS if node[0] is None else node[0]
 
 
+def children_first(tree):
+    """The list of the nodes of a good tree, each one behind all its children."""
+    nodes = list(range(len(tree))) if goes_forward(tree) else parents_first(tree)
+    return nodes[::-1]
+
+
 class TreeKinds:
     """The kinds of the nodes of a tree: those of one kind tell the same, their own act and behind all events.
 
@@ -155,41 +193,47 @@ class TreeKinds:
 
     def __init__(self, tree):
         self.shapes = []
-        self.kinds = [None] * len(tree)
+        kinds = [None] * len(tree)
         known = {}
-        for node in reversed(parents_first(tree)):
-            if node == 0 or not nothing_follows(tree[node]):
-                shape = self.shape_of(tree[node])
-                if shape not in known:
-                    known[shape] = len(self.shapes)
+        for node in children_first(tree):
+            act, children = tree[node]
+            if children or node == 0 or (act is not None and len(act) > 1):
+                below = [(event, kinds[index]) for event, index in children if kinds[index] is not None]
+                shape = (act, tuple(below))
+                kind = known.setdefault(shape, len(self.shapes))
+                if kind == len(self.shapes):
                     self.shapes.append(shape)
-                self.kinds[node] = known[shape]
+                kinds[node] = kind
+        self.kinds = kinds
 
-    def shape_of(self, node):
-        """What a node tells, the kinds of its children being known."""
-        below = [(event, self.kinds[index]) for event, index in node[1] if self.kinds[index] is not None]
-        return (node[0], tuple(below))
-
-    def met_from_root(self):
-        """The list of the kinds in the order in which they are met from the root on."""
-        met = [self.kinds[0]]
-        known = {self.kinds[0]: True}
+    def numbers_from_root(self):
+        """The dict from the kinds to their numbers, as they are met from the root on."""
+        root = self.kinds[0]
+        numbers = {root: 0}
+        met = [root]
+        # What is met grows while it is gone through.
         at = 0
         while at < len(met):
             for _, kind in self.shapes[met[at]][1]:
-                if kind not in known:
-                    known[kind] = True
+                if kind not in numbers:
+                    numbers[kind] = len(met)
                     met.append(kind)
             at += 1
-        return met
+        return numbers
+
+
+def least_behind(tree):
+    """The tree with the fewest nodes that tells the same as a good one."""
+    told = TreeKinds(tree)
+    numbers = told.numbers_from_root()
+    nodes = []
+    for kind in numbers:
+        act, children = told.shapes[kind]
+        nodes.append((act, tuple([(event, numbers[below]) for event, below in children])))
+    return tuple(nodes)
 
 
 def least_tree(tree):
     """The tree with the fewest nodes that tells the same behind all lists of events."""
     need_tree(tree)
-    told = TreeKinds(tree)
-    met = told.met_from_root()
-    numbers = {kind: at for at, kind in enumerate(met)}
-    nodes = [(told.shapes[kind][0], tuple([(event, numbers[below]) for event, below in told.shapes[kind][1]]))
-             for kind in met]
-    return tuple(nodes)
+    return least_behind(tree)

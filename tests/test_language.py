@@ -20,7 +20,7 @@ BUILTINS = set((
 METHODS = set((
     "append clear copy count endswith extend find get index insert isalnum isalpha isdigit islower isspace isupper items "
     "join keys ljust lower lstrip partition pop remove replace reverse rfind rjust rpartition rsplit rstrip setdefault "
-    "split splitlines startswith strip update upper values zfill bit_length add discard __init__"
+    "split splitlines startswith strip update upper values zfill bit_length isascii add discard __init__"
 ).split())
 DUNDERS = {"__init__", "__eq__", "__repr__", "__str__", "__len__"}
 BARRED = set((
@@ -162,6 +162,8 @@ class CodeTest(unittest.TestCase):
                 if isinstance(node, ast.Assign):
                     self.assertEqual(len(node.targets), 1)
                     self.assertIsInstance(node.targets[0], ast.Name)
+                    if ast.unparse(node.value) == "-1":
+                        continue
                     for inner in ast.walk(node.value):
                         self.assertIsInstance(inner, (ast.Constant, ast.Tuple, ast.Dict, ast.List, ast.Name, ast.Load))
             top = names_bound(ast.Module([node for node in tree.body if isinstance(node, ast.ImportFrom)], []))
