@@ -36,7 +36,7 @@ def shortest_goal(walk, levels):
     found = PlaySearch(walk, levels, MOST_ITEMS).shortest()
     if found is None:
         raise TooMany(MOST_ITEMS)
-    return (found.play(), found.told)
+    return found
 
 
 def ascending(memories):

@@ -6,6 +6,8 @@ what lies open to all runnings, both by their numbers. With the word "goal" the 
 and in the place of running stands what is told of it. Behind ("ends",) there is nothing, so it is no move.
 """
 
+from math import lcm
+
 from ownharm.kinds import ENDS, MODULUS
 from ownharm.roomturns import MOST_CONTENTS, Ledger
 from ownharm.wishes import state_behind
@@ -115,8 +117,8 @@ class PairMoves:
         one, other = (None, None) if running is None else self.runnings.things[running]
         found = []
         for (head, modulus), (_, other_modulus) in zip(self.turns.heads(one), self.others.heads(other)):
-            # So all pairs of rests come, some of them more than once.
-            for number in range(modulus * other_modulus):
+            # So all pairs of rests that one number can have come, each of them once.
+            for number in range(lcm(modulus, other_modulus)):
                 memory, other_memory = self.pairs.things[shared]
                 turn = self.turns.turn(one, memory, head, number % modulus)
                 other_turn = self.others.turn(other, other_memory, head, number % other_modulus)

@@ -1,188 +1,215 @@
 """The shortest play that comes to what is looked for, with at most so many levels.
 
-A stage is all that plays do from one moment on, at which the partner has control, until the runnings that are open
-there go on. It hangs on what is shared at its begin alone, so one stage serves for all moments that are alike.
+A play to a goal is a row of moves; wherever the partner has control, whole runnings may come between, from an "in"
+to a "gives". What a whole running does hangs on what is shared at its begin alone, so it is looked for once for all
+moments that are alike there, and once it is found it serves in the place of a move, also in other runnings.
 """
 
-# How many items a turn has, but for a last one.
-TURN = 2
+from ownharm.playbounds import PlayBounds
+from ownharm.playkinds import RunningKinds
 
 
-class Found:
-    """What a play in a stage comes to.
+class Trail:
+    """What comes from a begin on, up to a moment at which the partner has control, or to a goal.
 
-    kind is "free" where the partner has control and this running waits last (None: none of the stage is open),
-    "ask" where it asks and the stage above it is still to be entered, "goal" at a goal. cost is how many items the
-    play has, height how many runnings are open at once in it. ahead is the play ahead, None at the begin of the
-    stage; behind that come either the items gained or a whole play of another stage, within. told is told of a goal.
+    since is what is shared where a running begins that is open all along; then height is how many runnings are open
+    at once in the trail. Where since is None it is the trail of the whole play; then height is how many are open at
+    its end. running is the one that waits last at the end, None if none of the trail is open. cost is how many items
+    the trail has. ahead is the trail that it prolongs, None if there is none; behind that comes either a step, as
+    RunningKinds has them, or another whole running, within.
     """
 
-    def __init__(self, stage, kind, running, shared, cost, height):
-        self.stage = stage
-        self.kind = kind
+    def __init__(self, since, running, shared, cost, height):
+        self.since = since
         self.running = running
         self.shared = shared
         self.cost = cost
         self.height = height
         self.ahead = None
-        self.gained = ()
+        self.step = None
         self.within = None
-        self.told = None
 
-    def play(self):
-        """The list of the items."""
-        items = []
-        found = self
-        while found is not None:
-            items = (list(found.gained) if found.within is None else found.within.play()) + items
-            found = found.ahead
-        return items
+    def way(self):
+        """The list of the steps."""
+        pieces = []
+        trail = self
+        while trail is not None:
+            if trail.step is not None:
+                pieces.append([trail.step])
+            elif trail.within is not None:
+                pieces.append(trail.within.way())
+            trail = trail.ahead
+        return [step for piece in pieces[::-1] for step in piece]
 
 
-class Stage:
-    """since is with how many items the stage was first entered.
+class Ends:
+    """What is known of all trails with the same begin and end.
 
-    offers are the lists of the pairs (cost, height) with which each moment has been offered, heights the least ones
-    with which it has been looked at. over are the plays behind which no running of the stage is open, and those that
-    come to a goal; askers are what plays of other stages had come to when they entered this one.
+    bounds has, by their heights, how many items stand at least around them in a play to a goal; offers are the pairs
+    of the costs and heights with which there are such trails.
     """
 
-    def __init__(self, since):
-        self.since = since
-        self.offers = {}
-        self.heights = {}
-        self.over = []
-        self.askers = []
+    def __init__(self, bounds):
+        self.bounds = bounds
+        self.offers = []
 
-    def is_useless(self, moment, cost, height):
-        """Whether the moment has been offered with no more cost and no more height."""
-        for least, low in self.offers.get(moment, ()):
+    def is_useless(self, cost, height):
+        """Whether there is a trail as good as one with this cost and height."""
+        for least, low in self.offers:
             if least <= cost and low <= height:
                 return True
         return False
 
-
-def items_left(moves, most):
-    """The dict from what is shared to how many items a play needs at least from there to a goal, up to the most.
-
-    Whatever waits is left out here: what leads from one moment to the next one may be the move of any running.
-    """
-    layers = [[] for _ in range(most + 1)]
-    sources = {}
-    for (_, shared), known in moves.items():
-        for word, items, _, behind in known:
-            if word == "goal":
-                layers[len(items)].append(shared)
-            else:
-                sources.setdefault(behind, []).append(shared)
-    left = {}
-    for cost in range(most + 1):
-        for shared in list(layers[cost]):
-            if shared not in left:
-                left[shared] = cost
-                if cost + TURN <= most:
-                    layers[cost + TURN].extend(sources.get(shared, []))
-    return left
+    def is_outdone(self, cost, height):
+        """Whether there is a better trail than one with this cost and height."""
+        for least, low in self.offers:
+            if least <= cost and low <= height and (least < cost or low < height):
+                return True
+        return False
 
 
 class PlaySearch:
     """Looks for the shortest play among those that a walk has met.
 
-    left tells how many items are needed at least from what is shared to a goal; queue has, for each count of items
-    that a play to a goal has at least, what is found of such plays.
+    queue has the trails to be looked at, by how many items a play with them has at least and then by height; now is
+    the place of the first ones. ends has what is known of trails by their begins, the runnings that wait at their
+    ends and what is shared there; begun tells where runnings have been begun. By what is shared at the end, waiting
+    has the trails looked at that go on, spans those of which no running is open; by what is shared at the begin,
+    closed has the whole runnings.
     """
 
     def __init__(self, walk, levels, most):
-        self.moves = walk.moves
+        self.kinds = RunningKinds(walk.moves)
+        self.first = walk.first
         self.levels = levels
-        self.left = items_left(walk.moves, most)
-        self.queue = [[] for _ in range(most + 1)]
-        self.stages = {}
-        self.first = self.stage_from(walk.first, 0)
+        self.most = most
+        self.bounds = PlayBounds(walk, levels, most)
+        self.queue = [[] for _ in range((most + 1) * (levels + 1))]
+        self.now = 0
+        self.ends = {}
+        self.begun = {}
+        self.waiting = {}
+        self.spans = {}
+        self.closed = {}
 
     def shortest(self):
-        """What the shortest play comes to, None if it has more items than the most."""
-        for items in range(len(self.queue)):
-            at = 0
-            # What is found may cost nothing more: the queue grows while it is gone through.
-            while at < len(self.queue[items]):
-                found = self.queue[items][at]
-                at += 1
-                if found.kind == "goal" and found.stage == self.first:
-                    return found
-                self.look_at(found)
+        """The pair of the shortest play to a goal and what is told of that, None if it has more items than the most."""
+        self.offered(None, None, self.first, 0, 0)
+        while self.now < len(self.queue):
+            if self.queue[self.now]:
+                trail = self.queue[self.now].pop()
+                # A goal alone has nothing shared.
+                if trail.shared is None:
+                    return self.kinds.play(self.first, trail.way())
+                self.look_at(trail)
+            else:
+                self.now += 1
         return None
 
-    def stage_from(self, shared, since):
-        """The stage that begins with this, entered now with so many items."""
-        if shared not in self.stages:
-            self.stages[shared] = Stage(since)
-            self.offered(self.stages[shared], "free", None, shared, 0, 0)
-        return self.stages[shared]
+    def put(self, trail, items, height):
+        """Puts a trail into the queue; a play with it has at least so many items."""
+        place = items * (self.levels + 1) + height
+        self.queue[place].append(trail)
+        self.now = min(self.now, place)
 
-    def offered(self, stage, kind, running, shared, cost, height):
-        """Puts what a play comes to into the queue and returns it; None if that is of no use."""
-        if height > self.levels or (kind != "goal" and shared not in self.left):
+    def offered(self, since, running, shared, cost, height):
+        """Puts a trail with these ends into the queue and returns it; None if it is of no use."""
+        if height > self.levels:
             return None
-        items = stage.since + cost + (0 if kind == "goal" else self.left[shared])
-        if items >= len(self.queue):
+        key = (since, running, shared)
+        ends = self.ends.get(key)
+        if ends is None:
+            if since is None:
+                ends = Ends(self.bounds.bounds_behind(shared))
+            else:
+                ends = Ends(self.bounds.bounds_around(since, 0 if running is None else 1, shared))
+            self.ends[key] = ends
+        items = cost + ends.bounds[height]
+        if items > self.most or ends.is_useless(cost, height):
             return None
-        moment = (kind, running, shared)
-        if stage.is_useless(moment, cost, height):
-            return None
-        # Whoever is free here, by a way no worse, has been in all stages above this ask already, or will be.
-        if kind == "ask" and stage.is_useless(("free", running, shared), cost, height):
-            return None
-        stage.offers.setdefault(moment, []).append((cost, height))
-        found = Found(stage, kind, running, shared, cost, height)
-        self.queue[items].append(found)
-        return found
+        ends.offers.append((cost, height))
+        trail = Trail(since, running, shared, cost, height)
+        self.put(trail, items, height)
+        return trail
 
-    def look_at(self, found):
-        """Goes on from what is found, if nothing as good has been found ahead of it."""
-        stage = found.stage
-        moment = (found.kind, found.running, found.shared)
-        if stage.heights.get(moment, self.levels + 1) <= found.height:
+    def look_at(self, trail):
+        """Goes on from a trail, if no better one has come behind it."""
+        if self.ends[(trail.since, trail.running, trail.shared)].is_outdone(trail.cost, trail.height):
             return
-        stage.heights[moment] = found.height
-        if found.kind == "ask":
-            self.enter(found)
+        if trail.since is None or trail.running is not None:
+            self.go_on(trail)
             return
-        if found.running is None:
-            stage.over.append(found)
-            for asker in stage.askers:
-                self.come_back(asker, found)
-        for move in self.moves.get((found.running, found.shared), []):
-            self.make(found, move)
+        if trail.step is not None:
+            self.closed.setdefault(trail.since, []).append(trail)
+            for ahead in self.waiting.get(trail.since, []):
+                self.go_past(ahead, trail)
+            for ahead in self.spans.get(trail.since, []):
+                self.join(ahead, trail)
+        # With one level nothing runs within a running, and no span is of use.
+        if self.levels > 1:
+            self.spans.setdefault(trail.shared, []).append(trail)
+            for whole in self.closed.get(trail.shared, []):
+                self.join(trail, whole)
 
-    def make(self, found, move):
-        """A move from what is found."""
-        word, items, running, shared = move
-        cost = found.cost + len(items)
-        height = max(found.height, 1)
+    def go_on(self, trail):
+        """Goes on from a trail at whose end the partner has control."""
+        shared = trail.shared
+        self.waiting.setdefault(shared, []).append(trail)
+        for whole in self.closed.get(shared, []):
+            self.go_past(trail, whole)
+        above = 2
+        if trail.since is None:
+            above = trail.height + 1
+            for move in self.kinds.moves_from(None, shared):
+                self.make(trail, True, move, above)
+        if above <= self.levels and shared not in self.begun:
+            self.begin_at(shared)
+        if trail.running is not None:
+            for move in self.kinds.moves_from(trail.running, shared):
+                self.make(trail, False, move, trail.height)
+
+    def begin_at(self, shared):
+        """Runnings may begin here."""
+        self.begun[shared] = True
+        for move in self.kinds.moves_from(None, shared):
+            word, many, running, behind = move
+            # What comes to nothing new is of no use.
+            if word == "calls" or (word == "gives" and behind != shared):
+                trail = self.offered(shared, running if word == "calls" else None, behind, many, 1)
+                if trail is not None:
+                    trail.step = (True, move)
+
+    def make(self, trail, begins, move, height):
+        """A move from the end of a trail, which begins a running or lets one go on; behind it that has this height."""
+        word, many, running, shared = move
         if word == "goal":
-            behind = self.offered(found.stage, "goal", None, None, cost, height)
-        else:
-            behind = self.offered(found.stage, "ask" if word == "calls" else "free", running, shared, cost, height)
-        if behind is not None:
-            behind.ahead = found
-            behind.gained = items
-            if word == "goal":
-                behind.told = running
+            if trail.since is None and height <= self.levels and trail.cost + many <= self.most:
+                goal = Trail(None, None, None, trail.cost + many, height)
+                goal.ahead = trail
+                goal.step = (begins, move)
+                self.put(goal, goal.cost, 0)
+            return
+        # A whole running, or the end of one that is open in the trail of the whole play, is not told by a move.
+        if word == "gives" and (trail.since is None or shared == trail.since):
+            return
+        longer = self.offered(trail.since, running if word == "calls" else None, shared, trail.cost + many, height)
+        if longer is not None:
+            longer.ahead = trail
+            longer.step = (begins, move)
 
-    def enter(self, found):
-        """A running asks: the stage above it is entered."""
-        stage = self.stage_from(found.shared, found.stage.since + found.cost)
-        stage.askers.append(found)
-        for over in list(stage.over):
-            self.come_back(found, over)
+    def go_past(self, trail, whole):
+        """A whole running comes at the end of a trail."""
+        height = max(trail.height, 1 + whole.height)
+        if trail.since is None:
+            height = trail.height
+            if height + whole.height > self.levels:
+                return
+        longer = self.offered(trail.since, trail.running, whole.shared, trail.cost + whole.cost, height)
+        if longer is not None:
+            longer.ahead = trail
+            longer.within = whole
 
-    def come_back(self, asker, over):
-        """A play of a stage entered is over: the play that entered it goes on, or is at a goal, too."""
-        running = None if over.kind == "goal" else asker.running
-        height = max(asker.height, 1 + over.height)
-        behind = self.offered(asker.stage, over.kind, running, over.shared, asker.cost + over.cost, height)
-        if behind is not None:
-            behind.ahead = asker
-            behind.within = over
-            behind.told = over.told
+    def join(self, span, whole):
+        """A whole running comes behind others, none of which is open."""
+        if whole.shared != span.since:
+            self.offered(span.since, None, whole.shared, span.cost + whole.cost, max(span.height, whole.height))

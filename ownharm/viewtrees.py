@@ -60,7 +60,8 @@ def parents_first(tree):
     # What is found grows while it is gone through.
     at = 0
     while at < len(found):
-        for _, index in tree[found[at]][1]:
+        last = found[at]
+        for _, index in tree[last][1]:
             if waiting[index] == 1:
                 found.append(index)
             waiting[index] -= 1
@@ -214,7 +215,8 @@ class TreeKinds:
         # What is met grows while it is gone through.
         at = 0
         while at < len(met):
-            for _, kind in self.shapes[met[at]][1]:
+            last = met[at]
+            for _, kind in self.shapes[last][1]:
                 if kind not in numbers:
                     numbers[kind] = len(met)
                     met.append(kind)

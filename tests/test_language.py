@@ -125,6 +125,9 @@ class ImportsTest(unittest.TestCase):
             self.assertEqual(len(found), len([node for node in ast.walk(tree) if isinstance(node, ast.ImportFrom)]))
             self.assertEqual(found, tree.body[1:1 + len(found)], name)
             for node in found:
+                if node.module == "math":
+                    self.assertLessEqual({alias.name for alias in node.names}, {"gcd", "lcm"})
+                    continue
                 package, _, module = node.module.partition(".")
                 self.assertEqual((package, node.level), ("ownharm", 0))
                 for alias in node.names:
@@ -139,7 +142,7 @@ class ImportsTest(unittest.TestCase):
                     self.assertIn(alias.name, used, name)
 
     def test_order_and_no_cycles(self):
-        needs = {name: [node.module.split(".")[1] for node in imports_in(tree)] for name, tree in trees().items()}
+        needs = {name: [node.module.split(".")[1] for node in imports_in(tree) if node.module != "math"] for name, tree in trees().items()}
 
         def reached(name, way):
             self.assertNotIn(name, way)
