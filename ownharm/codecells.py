@@ -13,7 +13,7 @@ JUMP = 8000
 ASK = 9000
 GIVE = 9005
 # For the signs that are instructions of the machine.
-SIGNS = {"rest": REST, "plus": PLUS, "minus": MINUS, "times": 6000, "less": LESS}
+SIGNS = {"rest": 3000, "plus": 4000, "minus": 5000, "times": 6000, "less": 7000}
 # Registers 1 to 9 become 0, one after another: each is what it is less itself.
 CLEARED = (5111, 5222, 5333, 5444, 5555, 5666, 5777, 5888, 5999)
 

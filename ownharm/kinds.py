@@ -57,4 +57,4 @@ def good_name(value):
 
 def all_unlike(things):
     """Whether no two of the strings, wholes or tuples of such are equal."""
-    return len(set(things)) == len(things)
+    return len(things) < 2 or len(set(things)) == len(things)

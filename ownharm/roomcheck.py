@@ -126,7 +126,7 @@ def are_imports(value, own, names):
     if not is_tuple(value, 0, MOST_IMPORTS):
         return False
     for pair in value:
-        if not is_tuple(pair, 2, 2) or pair[0] == own:
+        if not isinstance(pair, tuple) or len(pair) != 2 or pair[0] == own:
             return False
         if not is_known_name(pair[0], names) or not is_known_name(pair[1], names):
             return False
@@ -135,7 +135,9 @@ def are_imports(value, own, names):
 
 def is_block(value, names):
     """Whether the value is a block."""
-    if not is_tuple(value, 2, 2) or not is_known_name(value[0], names) or not is_tuple(value[1], 1, MOST_VALUES):
+    if not isinstance(value, tuple) or len(value) != 2 or not is_known_name(value[0], names):
+        return False
+    if not isinstance(value[1], tuple) or not 1 <= len(value[1]) <= MOST_VALUES:
         return False
     return are_numbers([one for one in value[1] if one is not None])
 
@@ -152,7 +154,9 @@ def are_blocks(value, names):
 
 def is_function_head(value, names):
     """Whether the value is a function but for its body, which is not looked at."""
-    if not is_tuple(value, 3, 3) or not is_known_name(value[0], names) or not is_tuple(value[1], 0, MOST_PARAMS):
+    if not isinstance(value, tuple) or len(value) != 3 or not is_known_name(value[0], names):
+        return False
+    if not isinstance(value[1], tuple) or len(value[1]) > MOST_PARAMS:
         return False
     for param in value[1]:
         if not is_known_name(param, names):
@@ -162,7 +166,9 @@ def is_function_head(value, names):
 
 def is_door_head(value, names):
     """Whether the value is a door but for its body, which is not looked at."""
-    if not is_tuple(value, 4, 4) or not is_known_name(value[0], names) or not is_known_name(value[1], names):
+    if not isinstance(value, tuple) or len(value) != 4:
+        return False
+    if not is_known_name(value[0], names) or not is_known_name(value[1], names):
         return False
     return is_whole(value[2], 1, MOST_SIZE)
 

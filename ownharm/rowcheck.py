@@ -35,13 +35,14 @@ class RowWalk:
 
     def can_follow(self, crossing):
         """Whether any value is a crossing that can follow."""
-        if not is_tuple(crossing, 1, 5):
+        if not isinstance(crossing, tuple) or len(crossing) == 0:
             return False
         told = self.fields(crossing[0])
         if told is None or len(crossing) != 1 + len(told):
             return False
-        for item, field in zip(crossing[1:], told):
-            if not is_field(item, field):
+        for at, (low, high, other) in enumerate(told, 1):
+            item = crossing[at]
+            if not isinstance(item, int) or item is True or item is False or not low <= item <= high or item == other:
                 return False
         return True
 

@@ -5,22 +5,20 @@ from ownharm.kinds import good_name, is_written_whole
 
 # The end of a line is a token, too; no other one is an empty string.
 END = ""
-
-
-def is_word_sign(sign):
-    """Whether the one sign is a part of words."""
-    return sign == "_" or (sign.isascii() and sign.isalnum())
+# What words are made of.
+WORD_SIGNS = "abcdefghijklmnopqrstuvwxyzABCDEFGHIJKLMNOPQRSTUVWXYZ0123456789_"
 
 
 def tokens_in(line):
     """The list of the tokens of a line as pairs (token, column from 1), without its end."""
     text = line.partition("#")[0]
+    size = len(text)
     found = []
     at = 0
-    while at < len(text):
+    while at < size:
         behind = at + 1
-        if is_word_sign(text[at]):
-            while behind < len(text) and is_word_sign(text[behind]):
+        if text[at] in WORD_SIGNS:
+            while behind < size and text[behind] in WORD_SIGNS:
                 behind += 1
         if text[at] != " ":
             found.append((text[at:behind], at + 1))

@@ -281,6 +281,47 @@ class DeedsTest(unittest.TestCase):
         bench.undo()
         self.assertEqual((bench.program, bench.laid), (PROGRAM, {0: LOUD, 1: LOUD}))
 
+    def test_rewrite_with_the_doors_in_another_order(self):
+        # The others ask the same doors by other numbers then: their sections are others, too.
+        program = program_of("""depth 3
+room main
+  uses store.get store.put
+  block b 7
+  door go x 10
+    b[0] = (store.put(x) + b[0])
+    give (store.get(b[0]) * 2)
+room store
+  uses main.go
+  door get i 100
+    give (i + 1)
+  door put i 100
+    give (i + 50)
+room third
+  uses main.go
+  door d x 9
+""")
+        name, imports, blocks, functions, doors = program[1][1]
+        turned = (name, imports, blocks, functions, doors[::-1])
+        for laid in ({}, {0: LOUD}, {2: LOUD}, {0: LOUD, 2: LOUD}):
+            bench = Bench(program, 3)
+            for room, section in laid.items():
+                bench.lay(room, section)
+            bench.rewrite(1, turned)
+            self.assertEqual((bench.program, bench.laid), (with_room(program, 1, turned), laid))
+            for room in (0, 1, 2):
+                self.assertEqual(bench.cells(room), board_of(bench.program, laid)[2][room][0])
+            for room in laid:
+                bench.recompile(room)
+            for room in (0, 1, 2):
+                self.assertEqual(bench.cells(room), compiled(bench.program, room)[0])
+            bench.go(1000)
+            self.assertEqual(bench.row, source_row(bench.program, 3, 1000))
+            self.assertEqual(bench.row[-1], ("done", 122))
+            bench.rewrite(1, program[1][1])
+            self.assertEqual([bench.cells(room) for room in (0, 1, 2)], [compiled(program, room)[0] for room in (0, 1, 2)])
+            bench.undo()
+            self.assertEqual(bench.row[-1], ("done", 122))
+
     def test_rewrite_that_is_no_program(self):
         bench = Bench(PROGRAM, 3)
         for text, error in [("room main\n  door get i 5", BadProgram), ("room store\n  door put i 5", BadProgram), ("room other\n  door get i 5", BadProgram)]:
