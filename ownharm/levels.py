@@ -5,7 +5,7 @@ from ownharm.kinds import is_whole
 from ownharm.levelwalk import LevelWalk
 from ownharm.playmoves import HarmMoves, PairMoves, WishMoves
 from ownharm.roomturns import RoomTurns
-from ownharm.shortplays import PlaySearch
+from ownharm.shortplays import shortest_play
 from ownharm.wishes import need_small, need_wish
 
 MOST_LEVELS = 30
@@ -33,7 +33,7 @@ def shortest_goal(walk, levels):
     """The pair of the shortest play to a goal and what is told of that; None if there is none; TooMany."""
     if not walk.has_goal:
         return None
-    found = PlaySearch(walk, levels, MOST_ITEMS).shortest()
+    found = shortest_play(walk, levels, MOST_ITEMS)
     if found is None:
         raise TooMany(MOST_ITEMS)
     return found

@@ -110,21 +110,22 @@ def costs_from(layers, moves, levels, most):
 
 
 class PlayBounds:
-    """How many items the plays of a walk to a goal have at least, with at most so many levels and items.
+    """How many items the plays to a goal have at least, with at most so many levels and items.
 
-    By depths, start has the dicts from what is shared to how many items lead to there, left those to how many lead
-    from there to a goal.
+    graph has the moves from spot to spot, first is what is shared at the begin. By depths, start has the dicts from
+    what is shared to how many items lead to there, left those to how many lead from there to a goal.
     """
 
-    def __init__(self, walk, levels, most):
-        self.levels = levels
+    def __init__(self, graph, first, levels, most):
+        self.first = first
+        # A running that is open at the end has had two items at least, the last one maybe one.
+        self.levels = min(levels, (most + 1) // TURN)
         self.most = most
-        graph = SpotGraph(walk.moves)
-        begin = [0] * (levels + 1)
-        begin[0] = 1 << walk.first
-        goals = [[0] * (levels + 1), graph.goal_masks(1, levels), graph.goal_masks(2, levels)]
-        self.start = costs_from([begin], graph.forwards, levels, most)
-        self.left = costs_from(goals, graph.backwards, levels, most)
+        begins = [0] * (self.levels + 1)
+        begins[0] = 1 << first
+        goals = [graph.goal_masks(items, self.levels) for items in range(TURN + 1)]
+        self.start = costs_from([begins], graph.forwards, self.levels, most)
+        self.left = costs_from(goals, graph.backwards, self.levels, most)
         self.known = {}
 
     def bounds_behind(self, shared):

@@ -5,8 +5,11 @@ to a "gives". What a whole running does hangs on what is shared at its begin alo
 moments that are alike there, and once it is found it serves in the place of a move, also in other runnings.
 """
 
-from ownharm.playbounds import PlayBounds
+from ownharm.playbounds import PlayBounds, SpotGraph
 from ownharm.playkinds import RunningKinds
+
+# One behind another it is looked for plays with a part of the most items, at last with all of them.
+NEARER = (25, 5, 1)
 
 
 class Trail:
@@ -69,7 +72,7 @@ class Ends:
 
 
 class PlaySearch:
-    """Looks for the shortest play among those that a walk has met.
+    """Looks for the shortest play to a goal, with no more levels and items than the bounds tell.
 
     queue has the trails to be looked at, by how many items a play with them has at least and then by height; now is
     the place of the first ones. ends has what is known of trails by their begins, the runnings that wait at their
@@ -78,13 +81,12 @@ class PlaySearch:
     closed has the whole runnings.
     """
 
-    def __init__(self, walk, levels, most):
-        self.kinds = RunningKinds(walk.moves)
-        self.first = walk.first
-        self.levels = levels
-        self.most = most
-        self.bounds = PlayBounds(walk, levels, most)
-        self.queue = [[] for _ in range((most + 1) * (levels + 1))]
+    def __init__(self, kinds, bounds):
+        self.kinds = kinds
+        self.bounds = bounds
+        self.levels = bounds.levels
+        self.most = bounds.most
+        self.queue = [[] for _ in range((self.most + 1) * (self.levels + 1))]
         self.now = 0
         self.ends = {}
         self.begun = {}
@@ -94,13 +96,13 @@ class PlaySearch:
 
     def shortest(self):
         """The pair of the shortest play to a goal and what is told of that, None if it has more items than the most."""
-        self.offered(None, None, self.first, 0, 0)
+        self.offered(None, None, self.bounds.first, 0, 0)
         while self.now < len(self.queue):
             if self.queue[self.now]:
                 trail = self.queue[self.now].pop()
                 # A goal alone has nothing shared.
                 if trail.shared is None:
-                    return self.kinds.play(self.first, trail.way())
+                    return self.kinds.play(self.bounds.first, trail.way())
                 self.look_at(trail)
             else:
                 self.now += 1
@@ -213,3 +215,16 @@ class PlaySearch:
         """A whole running comes behind others, none of which is open."""
         if whole.shared != span.since:
             self.offered(span.since, None, whole.shared, span.cost + whole.cost, max(span.height, whole.height))
+
+
+def shortest_play(walk, levels, most):
+    """The pair of the shortest play to a goal among those that a walk has met, with at most so many levels, and what
+    is told of the goal; None if it has more items than the most."""
+    kinds = RunningKinds(walk.moves)
+    graph = SpotGraph(walk.moves)
+    # Most goals are near: there it is not looked far.
+    for part in NEARER:
+        found = PlaySearch(kinds, PlayBounds(graph, walk.first, levels, most // part)).shortest()
+        if found is not None:
+            return found
+    return None
