@@ -61,6 +61,27 @@ def kinds_of_rooms(many, there=HARM):
     }
 
 
+def held_room(many, most):
+    """A room that counts how many of its runnings of d are open; while so many are, its door e counts up to the most,
+    behind which it comes to harm."""
+    return small_room(f"""  uses o.p
+  block s 0
+  block b 0
+  door d x 1
+    s[0] = (s[0] + 1)
+    a = (o.p(0) rest 1)
+    s[0] = (s[0] - 1)
+    give 0
+  door e x 1
+    if (s[0] = {many})
+      if (b[0] = {most})
+        y = late
+      a = (o.p(1) rest 1)
+      b[0] = ((b[0] + 1) rest {most + 1})
+    give 0
+""")
+
+
 class CountDrawer:
     """Draws bodies that count modulo a number, and in another cell modulo a smaller one."""
 

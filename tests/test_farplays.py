@@ -4,7 +4,7 @@ import random
 import unittest
 
 from drawnsmall import beside_partner, draw_wish, exchanged_trap, number
-from farrooms import TRAP, counting_room, draw_counting, kinds_of_rooms
+from farrooms import TRAP, counting_room, draw_counting, held_room, kinds_of_rooms
 from ownharm.alone import view_alone
 from ownharm.errors import Harmful, TooMany
 from ownharm.levels import are_alike, breaking, harm, is_harmless, is_kept, parting
@@ -108,6 +108,19 @@ class SmallNumberTest(FarTest):
                         self.beside_plain_breaking(ending[name], THIRD, levels, 1500)
                         if name != "any answer":
                             self.beside_plain_parting(ending[name], giving[name], levels, 1500)
+
+    def test_runnings_far_from_the_begin(self):
+        # What the door e does is of use only where others are open below it.
+        for many, most in [(1, 2), (2, 3), (3, 5)]:
+            small = held_room(many, most)
+            self.assertTrue(is_harmless(small, many))
+            for levels in (many + 1, many + 2, 30):
+                items, place = self.check_harm(small, levels)
+                self.assertEqual((items, place), (2 * many + 4 * most + 1, ("e", 11)))
+                self.assertIn(self.beside_plain_harm(small, levels, 3000), (items, 0))
+        self.assertEqual(self.check_harm(held_room(29, 5), None)[0], 2 * 29 + 4 * 5 + 1)
+        self.assertEqual(self.check_harm(held_room(1, 60), 2)[0], 2 + 4 * 60 + 1)
+        self.assertTrue(is_harmless(held_room(30, 1)))
 
     def test_drawn_rooms_that_count(self):
         far = high = 0
