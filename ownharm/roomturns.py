@@ -3,6 +3,7 @@
 from ownharm.alone import outcome
 from ownharm.errors import TooLong, TooMany
 from ownharm.kinds import ENDS
+from ownharm.livelocals import live_locals, without_dead
 from ownharm.roomalone import RoomAlone, starting_state
 
 MOST_STEPS = 2000
@@ -45,6 +46,7 @@ class RoomTurns:
         self.memories = Ledger(MOST_CONTENTS)
         self.runnings = Ledger(None)
         self.known = {}
+        self.live = {}
         self.memories.number_for(starting_state(small)[0])
 
     def heads(self, running):
@@ -75,5 +77,15 @@ class RoomTurns:
         if act == ENDS or act[0] == "undefined":
             return (act, None, None)
         cells, waits = alone.moment()
-        waiting = self.runnings.number_for(waits[-1]) if act[0] == "calls" else None
+        waiting = self.runnings.number_for(self.bare(waits[-1])) if act[0] == "calls" else None
         return (act, waiting, self.memories.number_for(cells))
+
+    def bare(self, running):
+        """A running that waits, without the locals that can matter no more: so more runnings are alike."""
+        frames = []
+        for frame in running:
+            name = frame[0]
+            if name not in self.live:
+                self.live[name] = live_locals(self.alone.code_of(name))
+            frames.append(without_dead(frame, self.live[name]))
+        return tuple(frames)

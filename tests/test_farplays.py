@@ -7,12 +7,13 @@ from drawnsmall import beside_partner, draw_wish, exchanged_trap, number
 from farrooms import TRAP, counting_room, draw_counting, held_room, kinds_of_rooms
 from ownharm.alone import view_alone
 from ownharm.errors import Harmful, TooMany
-from ownharm.levels import are_alike, breaking, harm, is_harmless, is_kept, parting
+from ownharm.levels import are_alike, breaking, contents, harm, is_harmless, is_kept, parting
 from ownharm.partners import is_play, parting_partner, partner
 from ownharm.meaning import Run
 from ownharm.rows import view_of
 from ownharm.wishes import broken_at, is_small
 from plainsmall import Big, plain_breaking, plain_parting, plain_walk
+from smallrooms import small_room
 from work import entered
 
 NO_END = (1, ((0, "ends", None, 0, 0, None),))
@@ -219,6 +220,48 @@ class GreatNumberTest(FarTest):
             self.assertLess(entered(lambda: self.tried(counting_room(many), None)), 60000)
         for name, small in kinds_of_rooms(99).items():
             self.assertLess(entered(lambda: self.tried(small, 2)), 900000, name)
+
+    def test_work_with_answers_that_matter_no_more(self):
+        # Each answer but the last one is read once, or never: what waits is the same, whatever they were.
+        small = small_room("""  uses o.p
+  block s 0
+  door d x 6
+    a = (o.p(x) rest 6)
+    s[0] = ((s[0] + a) rest 2)
+    b = (o.p(a) rest 6)
+    a = (o.p(0) rest 6)
+    b = (o.p(b) rest 6)
+    s[0] = ((s[0] + a) rest 2)
+    a = (o.p(0) rest 6)
+    s[0] = ((s[0] + a) rest 2)
+    give 0
+""")
+        self.assertLess(entered(lambda: self.assertTrue(is_harmless(small))), 15000)
+        self.assertLess(entered(lambda: self.assertEqual(contents(small), [((0,),), ((1,),)])), 15000)
+
+    def test_locals_that_matter_behind_a_loop(self):
+        # What was answered first is read behind all other asks alone.
+        small = small_room("""  uses o.p
+  block s 0
+  door d x 2
+    k = (o.p(0) rest 3)
+    i = 0
+    while (i < 2)
+      if (x = 1)
+        y = (o.p(k) rest 2)
+      i = (i + 1)
+    if (k = 2)
+      if (x = 0)
+        s[0] = 1
+        give 0
+      if (s[0] = 1)
+        give late
+    give k
+""")
+        for levels in (1, 2, 3):
+            play, place = harm(small, levels)
+            self.assertEqual((len(play), place), (plain_walk(small, levels)[1], ("d", 43)))
+            self.assertEqual(self.check_harm(small, levels)[0], len(play))
 
     def tried(self, small, levels):
         try:
