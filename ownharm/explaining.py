@@ -172,7 +172,7 @@ def beside(programs, rows, rooms):
     views = [views_in(row) for row in rows]
     # All of them ahead of the rooms: views that part are told first.
     trees = [tree_behind([told[room] for told in views]) for room in rooms]
-    leasts = [small_least(tree) for tree in trees]
+    leasts = [small_least(tree, True) for tree in trees]
     found = []
     for depth, sources in programs:
         new = list(sources)

@@ -10,21 +10,21 @@ from ownharm.viewtrees import least_behind, need_tree, tree_behind
 MOST_NODES = 400
 
 
-def can_do(tree, wires, doors):
-    """Whether a room with these wires and so many doors can do what the tree tells."""
-    for act, children in tree:
+def can_do(acts, events, wires, doors):
+    """Whether a room with these wires and so many doors can do all these acts and meet all these events."""
+    for act in acts:
         # Of four items are the asks alone, of three the events "in".
-        if act is not None and len(act) == 4 and act[1:3] not in wires:
+        if len(act) == 4 and act[1:3] not in wires:
             return False
-        for event, _ in children:
-            if len(event) == 3 and event[1] >= doors:
-                return False
+    for event in events:
+        if len(event) == 3 and event[1] >= doors:
+            return False
     return True
 
 
-def small_least(tree):
-    """The least tree of a good tree; TooMany if no room is made from it."""
-    least = least_behind(tree)
+def small_least(tree, forward):
+    """The least tree as least_behind has it; TooMany if no room is made from it."""
+    least = least_behind(tree, forward)
     if len(least) > MOST_NODES or sum([len(children) for _, children in least]) > MOST_NODES:
         raise TooMany(MOST_NODES)
     return least
@@ -32,19 +32,19 @@ def small_least(tree):
 
 def room_showing(source, wires, view):
     """The room in the place of another one that is made from the tree of a good view; TooMany."""
-    return room_doing(source, wires, small_least(tree_behind([view])))
+    return room_doing(source, wires, small_least(tree_behind([view]), True))
 
 
 def made(program, room, tree):
     """A room that can stand in the place of the room of the program and does what the tree tells."""
     need_program(program)
     need_room_number(room, len(program[1]))
-    need_tree(tree)
+    acts, events, _, forward = need_tree(tree)
     source = program[1][room]
     wires = room_wires(program, source)
-    if not can_do(tree, wires, len(source[4])):
+    if not can_do(acts, events, wires, len(source[4])):
         raise BadTree("the tree has an act or an event that the room cannot have")
-    return room_doing(source, wires, small_least(tree))
+    return room_doing(source, wires, small_least(tree, forward))
 
 
 def need_fitting_row(program, row):

@@ -8,13 +8,17 @@ MOST_VIEWS = 200
 
 
 def nodes_told(value):
-    """The lists of the acts, of the events and of the children that some nodes tell, whatever the first two are, as a
-    triple; None if one of the values is no node, or one of the children is none of them."""
+    """What some nodes tell, None if one of the values is no node or one of their children is none of them.
+
+    It is the lists of the acts, of the events and of the children, the first two unjudged, and whether each child
+    stands behind its parents.
+    """
     many = len(value)
     acts = []
     events = []
     indices = []
-    for node in value:
+    forward = True
+    for at, node in enumerate(value):
         if not isinstance(node, tuple) or len(node) != 2:
             return None
         act, children = node
@@ -31,7 +35,9 @@ def nodes_told(value):
                 return None
             events.append(event)
             indices.append(index)
-    return (acts, events, indices)
+            if index <= at:
+                forward = False
+    return (acts, events, indices, forward)
 
 
 def are_ascending(children):
@@ -69,34 +75,36 @@ def parents_first(tree):
     return found
 
 
-def goes_forward(tree):
-    """Whether each child stands behind its parents: then there is no way back."""
-    return not [index for at, (_, children) in enumerate(tree) for _, index in children if index <= at]
+def tree_told(value):
+    """What the nodes of a tree tell, as nodes_told has it; None for any other value."""
+    if not isinstance(value, tuple) or len(value) == 0:
+        return None
+    told = nodes_told(value)
+    if told is None or not are_acts(told[0]) or not are_events(told[1]) or not is_root(value[0]):
+        return None
+    for _, children in value:
+        if len(children) > 1 and not are_ascending(children):
+            return None
+    for act, children in value[1:]:
+        # Of one item is the act that ends the run alone.
+        if children and (act is None or len(act) == 1):
+            return None
+    # Where no way leads back, whoever has a parent hangs together with the root.
+    reached = len(set(told[2])) + 1 if told[3] else len(parents_first(value))
+    return told if reached == len(value) else None
 
 
 def is_tree(value):
     """Whether any value is a tree."""
-    if not isinstance(value, tuple) or len(value) == 0:
-        return False
-    told = nodes_told(value)
-    if told is None or not are_acts(told[0]) or not are_events(told[1]) or not is_root(value[0]):
-        return False
-    for _, children in value:
-        if len(children) > 1 and not are_ascending(children):
-            return False
-    for act, children in value[1:]:
-        # Of one item is the act that ends the run alone.
-        if children and (act is None or len(act) == 1):
-            return False
-    if goes_forward(value):
-        return len(set(told[2])) == len(value) - 1
-    return len(parents_first(value)) == len(value)
+    return tree_told(value) is not None
 
 
 def need_tree(tree):
-    """BadTree for what is no tree."""
-    if not is_tree(tree):
+    """BadTree for what is no tree; what its nodes tell."""
+    told = tree_told(tree)
+    if told is None:
         raise BadTree("the value is no tree")
+    return told
 
 
 class TreeGrowth:
@@ -143,7 +151,7 @@ class TreeGrowth:
 
 
 def tree_behind(views):
-    """The tree of just these good views; Parted."""
+    """The tree of just these good views, each child behind its parent; Parted."""
     growth = TreeGrowth()
     for index, view in enumerate(views):
         growth.grow(index, view)
@@ -179,12 +187,6 @@ def act_behind(tree, events):
     return ENDS if node[0] is None else node[0]
 
 
-def children_first(tree):
-    """The list of the nodes of a good tree, each one behind all its children."""
-    nodes = list(range(len(tree))) if goes_forward(tree) else parents_first(tree)
-    return nodes[::-1]
-
-
 class TreeKinds:
     """The kinds of the nodes of a tree: those of one kind tell the same, their own act and behind all events.
 
@@ -192,11 +194,13 @@ class TreeKinds:
     its kind, or None if it tells that nothing comes behind it.
     """
 
-    def __init__(self, tree):
+    def __init__(self, tree, forward):
         self.shapes = []
         kinds = [None] * len(tree)
         known = {}
-        for node in children_first(tree):
+        order = list(range(len(tree))) if forward else parents_first(tree)
+        # All children of a node ahead of it.
+        for node in order[::-1]:
             act, children = tree[node]
             if children or node == 0 or (act is not None and len(act) > 1):
                 below = [(event, kinds[index]) for event, index in children if kinds[index] is not None]
@@ -224,9 +228,10 @@ class TreeKinds:
         return numbers
 
 
-def least_behind(tree):
-    """The tree with the fewest nodes that tells the same as a good one."""
-    told = TreeKinds(tree)
+def least_behind(tree, forward):
+    """The tree with the fewest nodes that tells the same as a good one; forward is whether all children of that stand
+    behind their parents."""
+    told = TreeKinds(tree, forward)
     numbers = told.numbers_from_root()
     nodes = []
     for kind in numbers:
@@ -237,5 +242,5 @@ def least_behind(tree):
 
 def least_tree(tree):
     """The tree with the fewest nodes that tells the same behind all lists of events."""
-    need_tree(tree)
-    return least_behind(tree)
+    told = need_tree(tree)
+    return least_behind(tree, told[3])
